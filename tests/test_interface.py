@@ -1,0 +1,70 @@
+"""The interface: each name stands in its file, defined there, with the arguments as written."""
+
+import importlib
+import inspect
+import unittest
+
+# As DOC.md lists them; errors have a test file of their own.
+INTERFACE = {
+    "callwords.kinds": {
+        "is_whole": "(thing, low, high)",
+        "is_name": "(thing)",
+        "is_letter": "(thing)",
+        "is_word": "(thing)",
+        "is_kind": "(thing)",
+        "number_word": "(number)",
+        "number_in": "(thing)",
+        "is_worth": "(kind, thing, *, own=())",
+        "word_of": "(kind, worth, *, own=())",
+        "worth_of": "(kind, word, *, own=())",
+        "begins_worth": "(kind, thing, *, own=())",
+        "known_words": "(kind, *, own=())",
+        "has_worth": "(kind, *, own=())",
+        "default_fits": "(form, kind, default)",
+    },
+    "callwords.lines": {
+        "cut": "(line)",
+        "state_of": "(line)",
+        "quoted": "(word)",
+        "joined": "(words)",
+        "quoted_behind": "(state, word)",
+        "shows_cut": "(line, thing)",
+        "are_alike": "(line, other)",
+    },
+}
+
+
+class InterfaceTests(unittest.TestCase):
+    """What other programs call."""
+
+    def test_6_arguments_as_written(self):
+        for file, names in INTERFACE.items():
+            module = importlib.import_module(file)
+            for name, arguments in names.items():
+                self.assertEqual(str(inspect.signature(getattr(module, name))), arguments, name)
+
+    def test_each_is_defined_in_its_file(self):
+        for file, names in INTERFACE.items():
+            module = importlib.import_module(file)
+            for name in names:
+                self.assertTrue(inspect.isfunction(getattr(module, name)))
+                self.assertEqual(getattr(module, name).__module__, file, name)
+
+    def test_each_error_is_defined_in_its_file(self):
+        errors = importlib.import_module("callwords.errors")
+        for name, error in vars(errors).items():
+            if inspect.isclass(error):
+                self.assertEqual(error.__module__, "callwords.errors", name)
+
+    def test_6_what_stands_behind_a_star_goes_by_name_alone(self):
+        kinds = importlib.import_module("callwords.kinds")
+        for name in ("is_worth", "word_of", "worth_of", "begins_worth"):
+            with self.assertRaises(TypeError):
+                getattr(kinds, name)(("own", "a"), "b", ["b"])
+        for name in ("known_words", "has_worth"):
+            with self.assertRaises(TypeError):
+                getattr(kinds, name)(("own", "a"), ["b"])
+
+
+if __name__ == "__main__":
+    unittest.main()
