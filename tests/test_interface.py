@@ -31,6 +31,61 @@ INTERFACE = {
         "shows_cut": "(line, thing)",
         "are_alike": "(line, other)",
     },
+    "callwords.grammars": {
+        "sets": "(grammar, path)",
+        "fits_some": "(grammar, path, on, off)",
+        "command_words": "(grammar, path)",
+        "option_words": "(grammar, path)",
+        "flag_words": "(grammar, path)",
+        "goes_bare": "(grammar, path)",
+        "goes": "(grammar, path)",
+    },
+    "callwords.reading": {
+        "read": "(grammar, words)",
+        "is_open": "(grammar, words, begun)",
+        "wanted": "(grammar, words)",
+        "reads": "(grammar, words)",
+        "shows_reading": "(grammar, words, thing)",
+    },
+    "callwords.layers": {
+        "read_book": "(text)",
+        "book_text": "(book)",
+        "called": "(grammar, reading, *, room=None, book=None)",
+        "layers_of": "(grammar, reading, path, name, *, room=None, book=None)",
+        "differing": "(one, other)",
+        "call_line": "(grammar, line, *, room=None, book=None)",
+    },
+    "callwords.writing": {
+        "shortest": "(grammar, reading)",
+        "is_safe": "(grammar, call, thing, *, rooms=(), books=False)",
+        "safe_line": "(grammar, call, *, rooms=(), books=False)",
+        "plain": "(grammar, reading)",
+        "plain_words": "(grammar, words)",
+    },
+}
+# Each class with its methods; arguments behind the object's own.
+CLASSES = {
+    ("callwords.grammars", "Grammar"): {
+        "__init__": "(self, root, *, own=None)",
+        "root": "(self)",
+        "paths": "(self)",
+        "command": "(self, path)",
+        "option": "(self, path, name)",
+        "place": "(self, path, name)",
+        "own_words": "(self, kind)",
+        "has_worth": "(self, kind)",
+        "with_root": "(self, root)",
+        "__eq__": "(self, other)",
+        "__len__": "(self)",
+    },
+    ("callwords.layers", "Call"): {
+        "path": "(self)",
+        "worths": "(self)",
+        "places": "(self)",
+        "whence": "(self)",
+        "worth": "(self, path, name)",
+        "__eq__": "(self, other)",
+    },
 }
 
 
@@ -49,6 +104,15 @@ class InterfaceTests(unittest.TestCase):
             for name in names:
                 self.assertTrue(inspect.isfunction(getattr(module, name)))
                 self.assertEqual(getattr(module, name).__module__, file, name)
+
+    def test_each_class_is_defined_in_its_file_and_each_method_in_its_class(self):
+        for (file, name), methods in CLASSES.items():
+            told = getattr(importlib.import_module(file), name)
+            self.assertTrue(inspect.isclass(told))
+            self.assertEqual(told.__module__, file, name)
+            for method, arguments in methods.items():
+                self.assertIn(method, vars(told))
+                self.assertEqual(str(inspect.signature(vars(told)[method])), arguments, method)
 
     def test_each_error_is_defined_in_its_file(self):
         errors = importlib.import_module("callwords.errors")

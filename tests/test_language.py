@@ -94,6 +94,29 @@ class LanguageTests(unittest.TestCase):
             if isinstance(node, ast.Constant):
                 self.assertNotIsInstance(node.value, (float, complex, type(...)), file)
 
+    def test_l2_what_the_library_gives_is_iterated_at_once(self):
+        for path in FILES:
+            tree = ast.parse(path.read_text())
+            rows = [row for row in tree.body if isinstance(row, ast.ImportFrom) and row.module == "itertools"]
+            names = [alias.name for row in rows for alias in row.names]
+            loops = [node.iter for node in ast.walk(tree) if isinstance(node, ast.For)]
+            heads = [part.func for part in loops if isinstance(part, ast.Call)]
+            for node in ast.walk(tree):
+                if isinstance(node, ast.Name) and node.id in names:
+                    self.assertIn(node, heads, path.name)
+
+    def test_l5_double_underscore_methods(self):
+        for file, node in nodes():
+            if isinstance(node, ast.ClassDef):
+                names = [part.name for part in node.body if isinstance(part, ast.FunctionDef)]
+                special = {name for name in names if name.startswith("__")}
+                self.assertLessEqual(special, {"__init__", "__eq__", "__len__"}, (file, node.name))
+                self.assertEqual(len(set(names)), len(names), (file, node.name))
+
+    def test_l7_lists_where_a_class_has_an_eq_of_its_own(self):
+        for file, node in nodes():
+            self.assertNotIsInstance(node, ast.GeneratorExp, file)
+
     def test_l8_builtins(self):
         for file, node in nodes():
             if isinstance(node, ast.Name) and hasattr(builtins, node.id):
@@ -149,6 +172,20 @@ class LanguageTests(unittest.TestCase):
             elif isinstance(node, ast.Attribute):
                 words = [node.attr]
             self.assertFalse(set(words) & BARRED_WORDS, file)
+
+    def test_l18_no_name_is_a_method_and_an_attribute(self):
+        bodies = [node.body for _, node in nodes() if isinstance(node, ast.ClassDef)]
+        methods = {part.name for body in bodies for part in body if isinstance(part, ast.FunctionDef)}
+        attributes = [node for _, node in nodes() if isinstance(node, ast.Attribute)]
+        stored = {node.attr for node in attributes if isinstance(node.ctx, ast.Store)}
+        self.assertEqual(methods & stored, set())
+
+    def test_l19_own_errors_alone_are_caught(self):
+        for file, node in nodes():
+            if isinstance(node, ast.ExceptHandler):
+                caught = node.type.elts if isinstance(node.type, ast.Tuple) else [node.type]
+                for name in caught:
+                    self.assertFalse(hasattr(builtins, name.id), file)
 
     def test_l19_errors_are_made_on_the_spot(self):
         for file, node in nodes():
