@@ -5,8 +5,9 @@ import re
 import unittest
 
 from callwords import grammars
-from callwords.errors import NoGrammar, NoKind, NoList, NoOwn, NotThere, Unfit
+from callwords.errors import NoGrammar, NoKind, NoList, NoOwn, NotThere, NoWord, Unfit
 from callwords.grammars import Grammar, command_words, fits_some, flag_words, goes, goes_bare, option_words, sets
+from callwords.kinds import default_fits
 from samples import NAME, NONE, NUMBER, ODD, OWN, OWN_WORDS, ROOTS, SIZE, TEXT
 from samples import command, count, flag, grammar, made, many, one, tool
 from things import ANY_THINGS, BAD_KINDS, GOOD_KINDS, Refusals, anew
@@ -92,6 +93,30 @@ def bad_commands():
         if times not in PLACE_ORDERS:
             found.append(command("go", places=list(zip(unlike("a", 4), [NAME] * 4, times))))
     return found
+
+
+def put_at(thing, places, other):
+    """A tuple with another thing at a place within it, told by its numbers."""
+    if not places:
+        return other
+    return thing[:places[0]] + (put_at(thing[places[0]], places[1:], other),) + thing[places[0] + 1:]
+
+
+def places_in(thing, places=()):
+    """All places within a tuple, by their numbers, with what stands there."""
+    yield places, thing
+    if isinstance(thing, tuple):
+        for at, part in enumerate(thing):
+            yield from places_in(part, places + (at,))
+
+
+def where_in(root, places):
+    """The path of the command that has a place, the numbers of the place within it, and those of the command."""
+    path, ahead, node = (), (), root
+    while len(places) > 1 and places[0] == 4:
+        node, ahead, places = node[4][places[1]], ahead + places[:2], places[2:]
+        path += (node[0],)
+    return path, places, ahead
 
 
 class Fits(Refusals):
@@ -211,6 +236,58 @@ class FormTests(Fits):
 
 class UnfitTests(Fits):
     """Point 31: one thing otherwise."""
+
+    def test_31_one_thing_otherwise_at_each_place(self):
+        root, tried = tool(), 0
+        for places, thing in places_in(root):
+            for other in (NoWord("a"), {}, None, True, "A b", 1000000, ()):
+                if type(other) is type(thing) and other == thing:
+                    continue
+                tried += self.assert_otherwise(root, places, other)
+        self.assertGreater(tried, 1400)
+
+    def assert_otherwise(self, root, places, other):
+        """A root with another thing at a place is unfit there, where the thing is of no use at the place."""
+        path, within, ahead = where_in(root, places)
+        new = put_at(root, places, other)
+        found = new
+        for at in ahead:
+            found = found[at]
+        if within[:1] == (4,):
+            if other != ():
+                self.assert_unfit(new, path, "form", found, own=OWN)
+            return other != ()
+        if within in ((), (0,)):
+            self.assert_unfit(new, path[:-1], "form", found, own=OWN)
+            return True
+        if within in ((1,), (2,), (3,)) and other == ():
+            return False
+        if within[0] == 1 and within[2:] in ((1,), (6,)) and other is None:
+            return False
+        if within[0] == 1 and within[2:] == (5,) and other is True and found[1][within[1]][2] == "one":
+            return False
+        if within[0] == 1 and within[2:3] == (4,):
+            option = found[1][within[1]]
+            # Any word fits as the default of an own kind, where the own words themselves aren't looked at.
+            if default_fits(option[2], option[3], other) and not (option[3][0] == "own" and other == "A b"):
+                return False
+            self.assert_unfit(new, path, "form" if option[5] else "default", found if option[5] else option[0], own=OWN)
+            return True
+        self.assert_unfit(new, path, "form", found, own=OWN)
+        return True
+
+    def test_31_another_name_at_each_place(self):
+        root = tool()
+        for places, thing in places_in(root):
+            path, within, ahead = where_in(root, places)
+            if within[:1] == (3,) and len(within) == 4:
+                new = put_at(root, places, "lacks")
+                found = new
+                for at in ahead + within[:2]:
+                    found = found[at]
+                self.assert_unfit(new, path, "group", found, own=OWN)
+            if within and within[-1] == 1 and len(within) > 2 and thing in OWN_WORDS:
+                self.assert_unfit(put_at(root, places, "lacks"), path, "own", "lacks", own=OWN)
 
     def test_31_names_twice(self):
         self.assert_unfit(command("a", [flag("aa"), count("bb"), flag("aa"), flag("bb")]), (), "twice", "aa")
