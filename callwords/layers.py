@@ -158,14 +158,16 @@ def all_places(grammar, path, filled):
 
 
 def layers_of(grammar, reading, path, name, *, room=None, book=None):
-    """What each layer gives an option, a new list of tuples (layer, worth); refused as called, of this option alone."""
+    """What each layer gives an option, a new list of tuples (layer, worth).
+
+    Refused as called of what is handed in, then with NotThere of (path, name), and Unread of this option alone.
+    """
     _look_at(grammar, reading, room, book)
     way, rows, _ = reading
     for at, row in enumerate(rows):
         for option in grammar.command(way[:at])[OPTIONS]:
             if path == way[:at] and name == option[NAME]:
                 layers = _all_layers(path, option, row, room, book)
-                _first_layer(grammar, option, layers)
                 return [(given[0], _worth_in(grammar, option, given)) for given in layers]
     raise NotThere((path, name))
 

@@ -489,10 +489,15 @@ class LayersOfTests(Refusals):
         self.assert_same(layers_of(told, ((), ((),), ()), (), "go"), [])
         self.assert_same(layers_of(told, ((), ((("on", 1),),), ()), (), "on"), [("line", 1), ("default", 0)])
 
-    def test_54_refused_as_called_of_this_option_alone(self):
+    def test_54_an_option_in_need_to_which_no_layer_gives_anything(self):
         reading = (("b",), ((), ()), ())
-        self.assert_refused(Lacks, {"name": "to"}, layers_of, self.grammar, reading, ("b",), "to")
-        self.assert_refused(Lacks, {"name": "up"}, layers_of, self.grammar, reading, (), "up", room={"r": "x"})
+        self.assert_same(layers_of(self.grammar, reading, ("b",), "to"), [])
+        self.assert_same(layers_of(self.grammar, reading, (), "up", room={"r": "x"}, book={}), [])
+        self.assert_same(layers_of(self.grammar, reading, ("b",), "to", room={"t": "ab"}), [("room", "ab")])
+        self.assert_refused(Lacks, {"name": "up"}, called, self.grammar, reading)
+
+    def test_54_what_other_options_lack_or_can_not_be_read_plays_no_part(self):
+        reading = (("b",), ((), ()), ())
         self.assertEqual(layers_of(self.grammar, reading, (), "on", room={"r": "x", "y": "'"},
                                    book={(("b",), "to"): ()}), [("default", 0)])
 
