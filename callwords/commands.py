@@ -48,11 +48,11 @@ def has_command_form(thing):
     if not begins_with_name(thing) or len(thing) != COMMAND_PARTS:
         return False
     _, options, places, groups, commands = thing
-    if not _is_tuple_to(options, MOST_OPTIONS) or not all([_has_option_form(option) for option in options]):
+    if not _is_tuple_to(options, MOST_OPTIONS) or not all([has_option_form(option) for option in options]):
         return False
     if not _is_tuple_to(places, MOST_PLACES) or not _are_places(places):
         return False
-    if not _is_tuple_to(groups, MOST_GROUPS) or not all([_has_group_form(group) for group in groups]):
+    if not _is_tuple_to(groups, MOST_GROUPS) or not all([has_group_form(group) for group in groups]):
         return False
     return _is_tuple_to(commands, MOST_BENEATH) and (len(commands) == 0 or len(places) == 0)
 
@@ -62,7 +62,7 @@ def _is_tuple_to(thing, most):
     return isinstance(thing, tuple) and len(thing) <= most
 
 
-def _has_option_form(thing):
+def has_option_form(thing):
     """Whether the thing is an option by its form, its default apart, but that need wants None."""
     if not begins_with_name(thing) or len(thing) != OPTION_PARTS:
         return False
@@ -78,10 +78,10 @@ def _has_option_form(thing):
 
 def _are_places(things):
     """Whether each of a tuple is a place, and they stand in the order in which words fill them."""
-    return all([_has_place_form(thing) for thing in things]) and _are_in_order([times for _, _, times in things])
+    return all([has_place_form(thing) for thing in things]) and _are_in_order([times for _, _, times in things])
 
 
-def _has_place_form(thing):
+def has_place_form(thing):
     """Whether the thing is a place by its form."""
     if not begins_with_name(thing) or len(thing) != PLACE_PARTS:
         return False
@@ -96,7 +96,7 @@ def _are_in_order(times):
     return "maybe" not in times or "some" not in times
 
 
-def _has_group_form(thing):
+def has_group_form(thing):
     """Whether the thing is a group by its form; whether its names are options isn't looked at."""
     if not isinstance(thing, tuple) or len(thing) != GROUP_PARTS or thing[0] not in GROUPINGS:
         return False

@@ -157,21 +157,21 @@ def has_between(found, on, off):
 
 def command_words(grammar, path):
     """The beginnings that read of the names beneath a command; refused with NoGrammar, NotThere."""
-    return _beginnings([below[NAME] for below in command_at(grammar, path)[COMMANDS]])
+    return beginnings_of([below[NAME] for below in command_at(grammar, path)[COMMANDS]])
 
 
 def option_words(grammar, path):
     """The beginnings that read of the names of a command's options; refused with NoGrammar, NotThere."""
-    return _beginnings([option[NAME] for option in command_at(grammar, path)[OPTIONS]])
+    return beginnings_of([option[NAME] for option in command_at(grammar, path)[OPTIONS]])
 
 
 def flag_words(grammar, path):
     """The beginnings that read of the names of a command's flags; refused with NoGrammar, NotThere."""
     options = command_at(grammar, path)[OPTIONS]
-    return _beginnings([option[NAME] for option in options if option[FORM] == "flag"])
+    return beginnings_of([option[NAME] for option in options if option[FORM] == "flag"])
 
 
-def _beginnings(names):
+def beginnings_of(names):
     """A dict, in Python's order, from each beginning of just one of the names, and each name, to the name."""
     found = {}
     for name in names:

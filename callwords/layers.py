@@ -92,13 +92,13 @@ def _look_at(grammar, reading, room, book):
         raise NoGrammar(grammar)
     if not is_reading(grammar, reading):
         raise NoReading(reading)
-    _look_at_layers(room, book)
+    look_at_layers(room, book)
     for key in sorted(list(book or {})):
         if not _is_option(grammar, key):
             raise NotThere(key)
 
 
-def _look_at_layers(room, book):
+def look_at_layers(room, book):
     """Refuses what is no room, then what is no book; None is none."""
     if room is not None and not is_room(room):
         raise NoRoom(room)
@@ -202,5 +202,5 @@ def call_line(grammar, line, *, room=None, book=None):
     if not isinstance(grammar, Grammar):
         raise NoGrammar(grammar)
     words = cut(line)
-    _look_at_layers(room, book)
+    look_at_layers(room, book)
     return called(grammar, read(grammar, words), room=room, book=book)

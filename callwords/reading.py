@@ -4,36 +4,25 @@ from callwords.errors import NoGrammar, NoList, NoWord, Wrong
 from callwords.grammars import Grammar
 from callwords.kinds import is_number, is_word
 from callwords.lines import are_words
-from callwords.steps import at_start, is_end, is_live, leads_on, reading_at, taken, wants
+from callwords.steps import is_end, leads_on, reading_at, walked, wants
 
 
 def read(grammar, words):
     """The reading (path, options, places) of words; refused with NoGrammar, NoList, Wrong."""
-    _look_at(grammar, words)
-    spot, at = _walked(grammar, words)
+    look_at(grammar, words)
+    spot, at = walked(grammar, words)
     if at == len(words) and is_end(grammar, spot):
         return reading_at(grammar, spot)
     sign = 0 if at == len(words) else _wrong_sign(grammar, spot, words[at])
     raise Wrong(at, sign, tuple(wants(grammar, spot)))
 
 
-def _look_at(grammar, words):
+def look_at(grammar, words):
     """Refuses what is no Grammar, then what is no list of at most forty words."""
     if not isinstance(grammar, Grammar):
         raise NoGrammar(grammar)
     if not are_words(words):
         raise NoList(words)
-
-
-def _walked(grammar, words):
-    """Where a line is behind as many words as begin one that reads, and how many; at its start where none reads."""
-    spot = at_start(grammar)
-    for at, word in enumerate(words):
-        further = taken(grammar, spot, word)
-        if not is_live(grammar, further):
-            return spot, at
-        spot = further
-    return spot, len(words)
 
 
 def _wrong_sign(grammar, spot, word):
@@ -46,24 +35,24 @@ def _wrong_sign(grammar, spot, word):
 
 def is_open(grammar, words, begun):
     """Whether some list that reads begins with the words, and a word so begun; refused with NoWord, too."""
-    _look_at(grammar, words)
+    look_at(grammar, words)
     if not is_word(begun):
         raise NoWord(begun)
-    spot, at = _walked(grammar, words)
+    spot, at = walked(grammar, words)
     return at == len(words) and leads_on(grammar, spot, begun)
 
 
 def wanted(grammar, words):
     """What may be the next word of some list that reads, a new list; refused with NoGrammar, NoList."""
-    _look_at(grammar, words)
-    spot, at = _walked(grammar, words)
+    look_at(grammar, words)
+    spot, at = walked(grammar, words)
     return wants(grammar, spot) if at == len(words) else []
 
 
 def reads(grammar, words):
     """Whether the words are a list that reads; refused with NoGrammar, NoList."""
-    _look_at(grammar, words)
-    spot, at = _walked(grammar, words)
+    look_at(grammar, words)
+    spot, at = walked(grammar, words)
     return at == len(words) and is_end(grammar, spot)
 
 

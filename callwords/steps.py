@@ -31,10 +31,10 @@ class Spot:
 
 def at_start(grammar):
     """Where a line is ahead of its first word."""
-    return Spot((), (), _nothing(grammar, ()), (), True, None)
+    return Spot((), (), nothing_given(grammar, ()), (), True, None)
 
 
-def _nothing(grammar, path):
+def nothing_given(grammar, path):
     """What the options of a command were given when it comes to hand."""
     return tuple([None for _ in grammar.command(path)[OPTIONS]])
 
@@ -121,7 +121,7 @@ def _number_of(grammar, spot, name):
     return [option[NAME] for option in _options(grammar, spot)].index(name)
 
 
-def _behind_letters(grammar, spot, word):
+def behind_letters(grammar, spot, word):
     """Behind letter by letter of a word, up to an option that waits, and what is left then; None where one fails."""
     letters = [option[SHORT] for option in _options(grammar, spot)]
     for at, letter in enumerate(word[1:]):
@@ -135,7 +135,7 @@ def _behind_letters(grammar, spot, word):
 
 def _with_letters(grammar, spot, word):
     """Behind a word of letters, or None."""
-    behind, rest = _behind_letters(grammar, spot, word)
+    behind, rest = behind_letters(grammar, spot, word)
     return behind if behind is None or rest == "" else _with_worth(grammar, behind, rest)
 
 
@@ -150,10 +150,10 @@ def _beneath(grammar, spot, name):
     if not _is_set(grammar, spot):
         return None
     way = spot.way + (name,)
-    return Spot(way, spot.rows + (row_of(grammar, spot),), _nothing(grammar, way), (), spot.free, None)
+    return Spot(way, spot.rows + (row_of(grammar, spot),), nothing_given(grammar, way), (), spot.free, None)
 
 
-def _next_place(grammar, spot):
+def next_place(grammar, spot):
     """The place that the next word fills, or None."""
     places, many = grammar.command(spot.way)[PLACES], len(spot.placed)
     if many < len(places):
@@ -166,7 +166,7 @@ def _next_place(grammar, spot):
 
 def _with_place(grammar, spot, word):
     """Behind the word of a place, or None."""
-    place = _next_place(grammar, spot)
+    place = next_place(grammar, spot)
     if place is None:
         return None
     worth = worth_of(place[1], word, own=grammar.own_words(place[1]))
@@ -184,7 +184,7 @@ def row_of(grammar, spot):
     return tuple([(option[NAME], worth) for option, worth in zip(options, spot.given) if worth is not None])
 
 
-def _standing(grammar, spot):
+def standing_at(grammar, spot):
     """The names of options that stand, the one that waits too, and of flags that are off."""
     on, off = [], []
     for number, option in enumerate(_options(grammar, spot)):
@@ -197,7 +197,7 @@ def _standing(grammar, spot):
 
 def _is_set(grammar, spot):
     """Whether just what stands may stand together, and no option waits."""
-    on, _ = _standing(grammar, spot)
+    on, _ = standing_at(grammar, spot)
     return spot.waiting is None and on in grammar.sets_at(spot.way)
 
 
@@ -205,17 +205,17 @@ def is_live(grammar, spot):
     """Whether some list that reads goes this way; not where there is no spot."""
     if spot is None:
         return False
-    on, off = _standing(grammar, spot)
+    on, off = standing_at(grammar, spot)
     found = grammar.sets_at(spot.way)
     if not (has_between(found, on, off) if spot.free else on in found):
         return False
     beneath = grammar.command(spot.way)[COMMANDS]
     if beneath:
         return any([goes_on(grammar, spot.way + (below[NAME],), not spot.free) for below in beneath])
-    return all([grammar.has_worth(kind) for _, kind, _ in _lacking(grammar, spot)])
+    return all([grammar.has_worth(kind) for _, kind, _ in lacking_places(grammar, spot)])
 
 
-def _lacking(grammar, spot):
+def lacking_places(grammar, spot):
     """The places that need a worth and have none."""
     places = grammar.command(spot.way)[PLACES][len(spot.placed):]
     return [place for place in places if place[2] in NEEDED]
@@ -225,7 +225,7 @@ def is_end(grammar, spot):
     """Whether the words up to here are a list that reads."""
     if not _is_set(grammar, spot) or grammar.command(spot.way)[COMMANDS]:
         return False
-    return len(_lacking(grammar, spot)) == 0
+    return len(lacking_places(grammar, spot)) == 0
 
 
 def reading_at(grammar, spot):
@@ -243,7 +243,7 @@ def wants(grammar, spot):
     found = _option_wants(grammar, spot) if spot.free else []
     found += _command_wants(grammar, spot)
     if _place_leads_on(grammar, spot, ""):
-        found.append(_next_place(grammar, spot)[1])
+        found.append(next_place(grammar, spot)[1])
     return found
 
 
@@ -289,7 +289,7 @@ def _begins(grammar, kind, text):
 def _option_leads_on(grammar, spot, text):
     """Whether some word of options leads on, and begins with a text that tells that it is one."""
     if not text.startswith(LONG):
-        return _is_begun(grammar, _behind_letters(grammar, spot, text))
+        return _is_begun(grammar, behind_letters(grammar, spot, text))
     name, sign, rest = text[len(LONG):].partition("=")
     if sign == "":
         return any([word.startswith(text) for word in _option_wants(grammar, spot)])
@@ -309,10 +309,43 @@ def _is_begun(grammar, behind):
 
 def _place_leads_on(grammar, spot, text):
     """Whether some word of the next place leads on, and begins with a text, which needn't be whole."""
-    place = _next_place(grammar, spot)
+    place = next_place(grammar, spot)
     if place is None or not is_live(grammar, _with_placed(spot, "")):
         return False
     own = grammar.own_words(place[1])
     if spot.free:
         own = [word for word in own if not is_like_option(word)]
     return begins_worth(place[1], text, own=own)
+
+
+def walked(grammar, words):
+    """Where a line is behind as many words as begin one that reads, and how many; at its start where none reads."""
+    spot = at_start(grammar)
+    for at, word in enumerate(words):
+        further = taken(grammar, spot, word)
+        if not is_live(grammar, further):
+            return spot, at
+        spot = further
+    return spot, len(words)
+
+
+def walked_to_end(grammar, words):
+    """Where a line is behind all words, or None where one isn't taken."""
+    spot = at_start(grammar)
+    for word in words:
+        spot = None if spot is None else taken(grammar, spot, word)
+    return spot
+
+
+def read_unlike(one, spot, other, against):
+    """Whether two Grammars read unlike the words up to a spot each, None where they are refused."""
+    reads, does = spot is not None and is_end(one, spot), against is not None and is_end(other, against)
+    if not reads or not does:
+        return reads or does
+    return _in_order(reading_at(one, spot)) != _in_order(reading_at(other, against))
+
+
+def _in_order(reading):
+    """A reading with each command's options in Python's order."""
+    path, rows, places = reading
+    return path, [sorted(list(row)) for row in rows], places

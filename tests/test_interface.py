@@ -62,6 +62,31 @@ INTERFACE = {
         "plain": "(grammar, reading)",
         "plain_words": "(grammar, words)",
     },
+    "callwords.completing": {
+        "known": "(grammar, words, begun)",
+        "going_on": "(grammar, line)",
+        "in_common": "(grammar, line)",
+        "far": "(one, other)",
+        "nearest": "(word, words, *, most=2)",
+        "meant": "(grammar, words)",
+    },
+    "callwords.helping": {
+        "usage": "(grammar, path)",
+        "row_for": "(grammar, path, names)",
+        "usage_text": "(grammar, path, row)",
+        "page": "(grammar, path, *, width=60)",
+        "facts": "(lines)",
+        "rows_of": "(grammar, words)",
+        "words_for": "(grammar, path, row)",
+    },
+    "callwords.editions": {
+        "changed": "(grammar, changes)",
+        "led_reading": "(grammar, changes, reading)",
+        "same_call": "(one, other, grammar, changes)",
+    },
+    "callwords.tables": {
+        "table_of": "(grammar, kind)",
+    },
 }
 # Each class with its methods; arguments behind the object's own.
 CLASSES = {
@@ -85,6 +110,15 @@ CLASSES = {
         "whence": "(self)",
         "worth": "(self, path, name)",
         "__eq__": "(self, other)",
+    },
+    ("callwords.editions", "Editions"): {
+        "__init__": "(self, grammar)",
+        "add": "(self, changes)",
+        "__len__": "(self)",
+        "grammar": "(self, number)",
+        "changes": "(self, number)",
+        "led": "(self, words, *, since=0, to)",
+        "beginnings": "(self, path, *, since=0, to)",
     },
 }
 
