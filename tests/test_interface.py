@@ -87,6 +87,20 @@ INTERFACE = {
     "callwords.tables": {
         "table_of": "(grammar, kind)",
     },
+    "callwords.comparing": {
+        "compared": "(one, other)",
+        "normal": "(grammar)",
+        "parts_them": "(one, other, thing)",
+        "unlike_paths": "(one, other)",
+        "idle": "(grammar)",
+    },
+    "callwords.scripts": {
+        "is_log": "(many, thing)",
+    },
+    "callwords.texts": {
+        "grammar_text": "(grammar)",
+        "read_grammar": "(text, *, own=None)",
+    },
 }
 # Each class with its methods; arguments behind the object's own.
 CLASSES = {
@@ -119,6 +133,21 @@ CLASSES = {
         "changes": "(self, number)",
         "led": "(self, words, *, since=0, to)",
         "beginnings": "(self, path, *, since=0, to)",
+    },
+    ("callwords.scripts", "Script"): {
+        "__init__": "(self, grammar, deeds, rows, *, room=None, book=None)",
+        "step": "(self)",
+        "run": "(self, many=40)",
+        "back": "(self, number)",
+        "next_row": "(self)",
+        "kept": "(self)",
+        "became": "(self, number)",
+        "log": "(self)",
+        "is_over": "(self)",
+    },
+    ("callwords.desk", "Desk"): {
+        "__init__": "(self)",
+        "say": "(self, row)",
     },
 }
 
