@@ -64,10 +64,10 @@ def _is_tuple_to(thing, most):
 
 def has_option_form(thing):
     """Whether the thing is an option by its form, its default apart, but that need wants None."""
-    if not begins_with_name(thing) or len(thing) != OPTION_PARTS:
+    if not isinstance(thing, tuple) or len(thing) != OPTION_PARTS:
         return False
     name, short, form, kind, default, need, source = thing
-    if len(name) < LEAST_OPTION_LETTERS or not (short is None or is_letter(short)):
+    if not is_name(name) or len(name) < LEAST_OPTION_LETTERS or not (short is None or is_letter(short)):
         return False
     if form not in FORMS or not (is_kind(kind) if form in WITH_KIND else kind is None):
         return False

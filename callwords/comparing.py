@@ -2,8 +2,9 @@
 
 from callwords.commands import COMMANDS, FORM, NAME, OPTIONS
 from callwords.errors import NoGrammar
-from callwords.grammars import Grammar, beginnings_of, command_words, flag_words, option_words
+from callwords.grammars import Grammar, command_words, flag_words, option_words
 from callwords.lines import are_words
+from callwords.nodes import beginnings_of
 from callwords.normals import counting_paths, normals
 from callwords.parting import Parting
 from callwords.steps import read_unlike, walked_to_end
@@ -36,7 +37,7 @@ def parts_them(one, other, thing):
     _look_at((one, other))
     if not are_words(thing):
         return False
-    return read_unlike(one, walked_to_end(one, thing), other, walked_to_end(other, thing))
+    return read_unlike(walked_to_end(one, thing), walked_to_end(other, thing))
 
 
 def unlike_paths(one, other):
@@ -73,12 +74,12 @@ def idle(grammar):
 
 def _useless_options(grammar, path, counting):
     """The names of a command's options that stand in no list that reads; a flag that can't be on can be off."""
-    options, found = grammar.command(path)[OPTIONS], grammar.sets_at(path)
+    node = grammar.node_of(path)
     if path not in counting:
-        return [option[NAME] for option in options]
+        return list(node.numbers)
     return [
-        option[NAME] for option in options
-        if option[FORM] != "flag" and not any([option[NAME] in names for names in found])
+        name for name, number in node.numbers.items()
+        if node.options[number][FORM] != "flag" and not node.has_between(1 << number, 0)
     ]
 
 

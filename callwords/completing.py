@@ -1,12 +1,12 @@
 """Half lines: the known words with which one goes on, and what is meant by words that don't read."""
 
-from callwords.commands import KIND, NAME, OPTIONS, SHORT
+from callwords.commands import KIND
 from callwords.errors import NoGrammar, NoList, NoNumber, NoWord, Reads
-from callwords.grammars import Grammar, option_words
-from callwords.kinds import is_whole, is_word, known_words
-from callwords.lines import quoted_behind, state_of
+from callwords.grammars import Grammar
+from callwords.kinds import is_whole, is_word, words_of
+from callwords.lines import state_of, written_behind
 from callwords.reading import look_at
-from callwords.steps import LONG, behind_letters, is_end, is_like_option, is_live, taken, walked, wants
+from callwords.steps import LONG, behind_letters, is_end, is_like_option, is_live, next_place, taken, walked, wants
 
 MOST_FAR = 2
 
@@ -17,64 +17,70 @@ def known(grammar, words, begun):
     if not is_word(begun):
         raise NoWord(begun)
     spot, at = walked(grammar, words)
-    return _known_at(grammar, spot, begun) if at == len(words) else []
+    return _known_at(spot, begun) if at == len(words) else []
 
 
-def _known_at(grammar, spot, begun):
+def _known_at(spot, begun):
     """The known words for a begun text, where a line is behind its whole words."""
     found = {}
-    for word in _wanted_words(grammar, spot) + _joined_words(grammar, spot, begun):
+    for word in _wanted_words(spot) + _joined_words(spot, begun):
         # What is longer than forty signs is no word, though the begun one may lead there.
-        if word.startswith(begun) and is_word(word) and is_live(grammar, taken(grammar, spot, word)):
+        if word.startswith(begun) and is_word(word) and is_live(taken(spot, word)):
             found[word] = True
     return list(found)
 
 
-def _wanted_words(grammar, spot):
+def _wanted_words(spot):
     """The wanted words, and the known words of a wanted kind."""
     found = []
-    for thing in wants(grammar, spot):
-        found += [thing] if isinstance(thing, str) else _words_of(grammar, thing)
+    for thing in wants(spot):
+        found += [thing] if isinstance(thing, str) else _bare_words(spot, thing)
     return found
 
 
-def _words_of(grammar, kind):
-    """The known words of a kind, none where there is no kind."""
-    return [] if kind is None else known_words(kind, own=grammar.own_words(kind))
+def _bare_words(spot, kind):
+    """The known words of a kind that is wanted at a spot, of the option that waits, or of the next place."""
+    node = spot.node
+    return words_of(kind, node.place_owns[next_place(spot)] if spot.waiting is None else node.owns[spot.waiting])
 
 
-def _joined_words(grammar, spot, begun):
+def _option_words(node, number):
+    """The known words of an option's kind, none where it has no kind."""
+    kind = node.options[number][KIND]
+    return [] if kind is None else words_of(kind, node.owns[number])
+
+
+def _joined_words(spot, begun):
     """Words that go on with a begun one of options: behind its `=`, or behind its letters."""
     if spot.waiting is not None or not spot.free or not is_like_option(begun):
         return []
-    return _behind_name(grammar, spot, begun) if begun.startswith(LONG) else _behind_letter(grammar, spot, begun)
+    return _behind_name(spot, begun) if begun.startswith(LONG) else _behind_letter(spot, begun)
 
 
-def _behind_name(grammar, spot, begun):
+def _behind_name(spot, begun):
     """A word of an option's name and `=`, with each known word behind."""
     head, sign, _ = begun.partition("=")
-    name = option_words(grammar, spot.way).get(head[len(LONG):])
-    if sign == "" or name is None:
+    number = spot.node.texts()[0].get(head[len(LONG):])
+    if sign == "" or number is None:
         return []
-    return [head + "=" + word for word in _words_of(grammar, grammar.option(spot.way, name)[KIND])]
+    return [head + "=" + word for word in _option_words(spot.node, number)]
 
 
-def _behind_letter(grammar, spot, begun):
+def _behind_letter(spot, begun):
     """A word of letters, with each further letter, or, up to the letter of an option with worths, each known word."""
-    behind, rest = behind_letters(grammar, spot, begun)
+    behind, rest = behind_letters(spot, begun)
     if behind is None:
         return []
-    options = grammar.command(spot.way)[OPTIONS]
     if behind.waiting is None:
-        return [begun + option[SHORT] for option in options if option[SHORT] is not None]
+        return [begun + letter for letter in spot.node.letters]
     head = begun[:len(begun) - len(rest)]
-    return [head + word for word in _words_of(grammar, options[behind.waiting][KIND]) if word != ""]
+    return [head + word for word in _option_words(spot.node, behind.waiting) if word != ""]
 
 
 def going_on(grammar, line):
     """How a line that breaks off may go on, a new list of tuples (word, text); refused with NoGrammar, as state_of."""
     state, words = _state_and_known(grammar, line)
-    return [(word, quoted_behind(state, word)) for word in words]
+    return [(word, written_behind(state, word)) for word in words]
 
 
 def _state_and_known(grammar, line):
@@ -151,7 +157,7 @@ def meant(grammar, words):
     look_at(grammar, words)
     spot, at = walked(grammar, words)
     if at == len(words):
-        if is_end(grammar, spot):
+        if is_end(spot):
             raise Reads(words)
         return at, []
-    return at, [word for word, _ in nearest(words[at], _known_at(grammar, spot, ""))]
+    return at, [word for word, _ in nearest(words[at], _known_at(spot, ""))]

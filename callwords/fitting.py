@@ -3,7 +3,7 @@
 from callwords.commands import COMMANDS, GROUPS, NAME, OPTIONS, PLACES, SHORT
 from callwords.commands import begins_with_name, has_command_form, own_name
 from callwords.errors import Unfit
-from callwords.kinds import default_fits, is_name
+from callwords.kinds import are_unlike, fits_form, is_name
 
 MOST_LEVELS = 2
 MOST_COMMANDS = 12
@@ -63,21 +63,20 @@ def _refuse_twice(path, command):
     letters = [option[SHORT] for option in command[OPTIONS] if option[SHORT] is not None]
     beneath = [below[NAME] for below in command[COMMANDS] if begins_with_name(below)]
     for texts in (names, letters, beneath):
-        for at, text in enumerate(texts):
-            if text in texts[:at]:
-                raise Unfit(path, "twice", text)
+        if not are_unlike(texts):
+            raise Unfit(path, "twice", [text for at, text in enumerate(texts) if text in texts[:at]][0])
 
 
 def _own_names(command):
     """The names of own kinds of a command's options, then places, in their order."""
     kinds = [kind for _, _, _, kind, _, _, _ in command[OPTIONS]] + [kind for _, kind, _ in command[PLACES]]
-    return [own_name(kind) for kind in kinds if own_name(kind) is not None]
+    return [kind[1] for kind in kinds if kind is not None and kind[0] == "own"]
 
 
 def _has_default(option, words):
     """Whether an option's default is one of its form and kind, own words counted."""
     _, _, form, kind, default, _, _ = option
-    if not default_fits(form, kind, default):
+    if not fits_form(form, kind, default):
         return False
     if own_name(kind) is None or default is None:
         return True
@@ -87,6 +86,8 @@ def _has_default(option, words):
 
 def _refuse_group(path, command):
     """Refuses the first group with a name that is no option of the command."""
+    if not command[GROUPS]:
+        return
     options = [option[NAME] for option in command[OPTIONS]]
     for group in command[GROUPS]:
         if not all([name in options for name in group[1]]):

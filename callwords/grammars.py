@@ -1,11 +1,10 @@
 """Grammars: which commands there are, which of their options stand together, which shortened names read."""
 
-from itertools import combinations
-
-from callwords.commands import COMMANDS, FORM, GROUPS, KIND, NAME, NEEDED, OPTIONS, PLACES, is_path, own_name
+from callwords.commands import NAME, OPTIONS, PLACES, is_path, own_name
 from callwords.errors import NoGrammar, NoKind, NoList, NoOwn, NotThere
 from callwords.fitting import asked, fitted, is_table
 from callwords.kinds import is_kind
+from callwords.nodes import nodes_of
 
 
 class Grammar:
@@ -20,7 +19,8 @@ class Grammar:
         self._root = root
         self._commands = commands
         self._words = words
-        self._sets = {path: _sets_of(commands[path], words) for path in commands}
+        # Made when first asked for: many a Grammar is made to be looked at alone.
+        self._nodes = None
 
     def root(self):
         """The root command."""
@@ -70,9 +70,16 @@ class Grammar:
         """A Grammar of another root, with the same own table; refused with Unfit."""
         return Grammar(root, own=self._own)
 
-    def sets_at(self, path):
-        """The sets of options that may stand together at one of the paths, a tuple."""
-        return self._sets[path]
+    def own_of(self, kind):
+        """The own words of a kind that the root has, none of other kinds than own, and of no kind."""
+        name = own_name(kind)
+        return () if name is None else self._words[name]
+
+    def node_of(self, path):
+        """The Node of one of the paths."""
+        if self._nodes is None:
+            self._nodes = nodes_of(self._commands, self._words)
+        return self._nodes[path]
 
     def __eq__(self, other):
         return isinstance(other, Grammar) and self._root == other._root and self._words == other._words
@@ -89,37 +96,6 @@ def _named(parts, name):
     raise NotThere(name)
 
 
-def _sets_of(command, words):
-    """The sets of a command's options that may stand together, by how many, then by their numbers."""
-    options, found = command[OPTIONS], []
-    usable = [number for number, option in enumerate(options) if _can_stand(option, words)]
-    for many in range(len(usable) + 1):
-        for numbers in combinations(usable, many):
-            names = tuple([options[number][NAME] for number in numbers])
-            if all([_holds(group, names) for group in command[GROUPS]]):
-                found.append(names)
-    return tuple(found)
-
-
-def _can_stand(option, words):
-    """Whether an option may stand at all: its kind, where it has one, has a worth."""
-    name = own_name(option[KIND])
-    return name is None or len(words[name]) > 0
-
-
-def _holds(group, names):
-    """Whether a group holds where just options of these names stand."""
-    word, grouped = group
-    standing = len([name for name in grouped if name in names])
-    if word == "just":
-        return standing == 1
-    if word == "most":
-        return standing <= 1
-    if word == "with":
-        return standing in (0, len(grouped))
-    return grouped[0] not in names or standing == len(grouped)
-
-
 def command_at(grammar, path):
     """The command of a Grammar's path; refused with NoGrammar, NotThere."""
     if not isinstance(grammar, Grammar):
@@ -127,19 +103,29 @@ def command_at(grammar, path):
     return grammar.command(path)
 
 
+def node_at(grammar, path):
+    """The Node of a Grammar's path; refused with NoGrammar, NotThere."""
+    command_at(grammar, path)
+    return grammar.node_of(path)
+
+
 def sets(grammar, path):
     """Which sets of a command's options may stand together, a new list; refused with NoGrammar, NotThere."""
-    command_at(grammar, path)
-    return list(grammar.sets_at(path))
+    return list(node_at(grammar, path).sets())
 
 
 def fits_some(grammar, path, on, off):
     """Whether some set has all of on and none of off; refused with NoGrammar, NotThere, NoList."""
-    names = [option[NAME] for option in command_at(grammar, path)[OPTIONS]]
+    node = node_at(grammar, path)
     for thing in (on, off):
-        if not are_among(thing, names):
+        if not are_among(thing, list(node.numbers)):
             raise NoList(thing)
-    return has_between(grammar.sets_at(path), on, off)
+    return node.has_between(_bits(node, on), _bits(node, off))
+
+
+def _bits(node, names):
+    """The number of a set of names, which may stand more than once among them."""
+    return sum([1 << node.numbers[name] for name in node.numbers if name in names])
 
 
 def are_among(thing, names):
@@ -147,59 +133,34 @@ def are_among(thing, names):
     return isinstance(thing, (list, tuple)) and all([name in names for name in thing])
 
 
-def has_between(found, on, off):
-    """Whether one of these sets has all of on and none of off."""
-    for names in found:
-        if all([name in names for name in on]) and not any([name in names for name in off]):
-            return True
-    return False
-
-
 def command_words(grammar, path):
     """The beginnings that read of the names beneath a command; refused with NoGrammar, NotThere."""
-    return beginnings_of([below[NAME] for below in command_at(grammar, path)[COMMANDS]])
+    _, _, commands = node_at(grammar, path).texts()
+    return {text: commands[text].way[-1] for text in commands}
 
 
 def option_words(grammar, path):
     """The beginnings that read of the names of a command's options; refused with NoGrammar, NotThere."""
-    return beginnings_of([option[NAME] for option in command_at(grammar, path)[OPTIONS]])
+    node = node_at(grammar, path)
+    return _named_texts(node, node.texts()[0])
 
 
 def flag_words(grammar, path):
     """The beginnings that read of the names of a command's flags; refused with NoGrammar, NotThere."""
-    options = command_at(grammar, path)[OPTIONS]
-    return beginnings_of([option[NAME] for option in options if option[FORM] == "flag"])
+    node = node_at(grammar, path)
+    return _named_texts(node, node.texts()[1])
 
 
-def beginnings_of(names):
-    """A dict, in Python's order, from each beginning of just one of the names, and each name, to the name."""
-    found = {}
-    for name in names:
-        for end in range(1, len(name) + 1):
-            text = name[:end]
-            if text == name or [other for other in names if other.startswith(text)] == [name]:
-                found[text] = name
-    return {text: found[text] for text in sorted(list(found))}
+def _named_texts(node, texts):
+    """A dict from texts to names of options, of one to their numbers."""
+    return {text: node.options[texts[text]][NAME] for text in texts}
 
 
 def goes_bare(grammar, path):
     """Whether a path can be gone to the end without options; refused with NoGrammar, NotThere."""
-    command_at(grammar, path)
-    return goes_on(grammar, path, True)
+    return node_at(grammar, path).goes_bare
 
 
 def goes(grammar, path):
     """Whether a path can be gone to the end at all; refused with NoGrammar, NotThere."""
-    command_at(grammar, path)
-    return goes_on(grammar, path, False)
-
-
-def goes_on(grammar, path, bare):
-    """Whether one of the paths can be gone to the end, by the set of none, if bare, or by any."""
-    found = grammar.sets_at(path)
-    if len(found) == 0 or (bare and () not in found):
-        return False
-    command = grammar.command(path)
-    if command[COMMANDS]:
-        return any([goes_on(grammar, path + (below[NAME],), bare) for below in command[COMMANDS]])
-    return all([grammar.has_worth(kind) for _, kind, times in command[PLACES] if times in NEEDED])
+    return node_at(grammar, path).goes

@@ -1,15 +1,13 @@
 """Help: usage rows, pages of a path, and words that go by a usage row."""
 
-from callwords.commands import COMMANDS, DEFAULT, FORM, GROUPS, KIND, NAME, NEEDED, OPTIONS, PLACES, REPEATED
-from callwords.commands import MOST_REST, SHORT, SOURCE, WITH_KIND
+from callwords.commands import DEFAULT, FORM, KIND, MOST_REST, NAME, REPEATED, WITH_KIND
 from callwords.errors import NoList, NoNumber, NotThere
-from callwords.grammars import are_among, command_at, goes_on
-from callwords.kinds import MOST_COUNT, MOST_MANY, is_whole, number_word
+from callwords.grammars import are_among, node_at
+from callwords.kinds import MOST_COUNT, MOST_MANY, is_whole, number_word, words_of
 from callwords.lines import joined
 from callwords.reading import read
-from callwords.readings import names_on
 from callwords.shortening import worth_word
-from callwords.usages import all_rows
+from callwords.usages import all_rows, first_row
 from callwords.writing import plain
 
 LEAST_WIDTH = 24
@@ -24,46 +22,36 @@ FLAG_WORDS = ("no", "yes")
 
 def usage(grammar, path):
     """All usage rows of a path, a new list of tuples (must, may); refused with NoGrammar, NotThere."""
-    command_at(grammar, path)
-    return all_rows(grammar, path)
+    return list(all_rows(node_at(grammar, path)))
 
 
 def row_for(grammar, path, names):
     """The first usage row by which a set of names goes, or None; refused with NoGrammar, NotThere, NoList."""
-    options = command_at(grammar, path)[OPTIONS]
-    if not are_among(names, [option[NAME] for option in options]):
+    node = node_at(grammar, path)
+    if not are_among(names, list(node.numbers)):
         raise NoList(names)
-    return _first_row(grammar, path, names)
-
-
-def _first_row(grammar, path, names):
-    """The first usage row of one of the paths by which a set of names goes, or None."""
-    for must, may in all_rows(grammar, path):
-        if all([name in names for name in must]) and all([name in must + may for name in names]):
-            return must, may
-    return None
+    return first_row(node, names)
 
 
 def usage_text(grammar, path, row):
     """A usage row as a text; refused with NoGrammar, NotThere of the path, then of what is no usage row."""
     if row not in usage(grammar, path):
         raise NotThere(row)
-    return _row_text(grammar, path, row)
+    return _row_text(grammar.node_of(path), row)
 
 
-def _row_text(grammar, path, row):
+def _row_text(node, row):
     """A usage row as a text, where it is known to be one."""
     must, may = row
-    command = grammar.command(path)
-    parts = [">", *path]
-    for option in command[OPTIONS]:
+    parts = [">", *node.way]
+    for option in node.options:
         if option[NAME] in must:
             parts.append(_option_text(option))
         elif option[NAME] in may:
             parts.append("[" + _option_text(option) + "]")
-    if command[COMMANDS]:
+    if node.beneath:
         parts.append("COMMAND")
-    for name, _, times in command[PLACES]:
+    for name, _, times in node.place_parts:
         ahead, behind = PLACE_ENDS[times]
         parts.append(ahead + name + behind)
     return " ".join(parts)
@@ -88,46 +76,43 @@ def _kind_text(kind):
 
 def page(grammar, path, *, width=WIDTH):
     """The lines of a path's help, a new list of texts; refused with NoGrammar, NotThere, NoNumber."""
-    command_at(grammar, path)
+    node = node_at(grammar, path)
     if not is_whole(width, LEAST_WIDTH, MOST_WIDTH):
         raise NoNumber(width)
     lines = []
-    for line in _all_facts(grammar, path):
+    for line in _all_facts(node):
         lines += _wrapped(line, width)
     return lines
 
 
-def _all_facts(grammar, path):
-    """The lines of a path's help, however long."""
-    command = grammar.command(path)
-    lines = [_row_text(grammar, path, row) for row in all_rows(grammar, path)]
-    found = grammar.sets_at(path)
-    for option in command[OPTIONS]:
-        stands = any([option[NAME] in names for names in found])
+def _all_facts(node):
+    """The lines of a command's help, however long."""
+    lines = [_row_text(node, row) for row in all_rows(node)]
+    for number, option in enumerate(node.options):
+        stands = node.has_between(1 << number, 0)
         if stands or option[FORM] == "flag":
             lines.append(option[NAME] + ": " + "; ".join(_option_facts(option, stands)))
-    for name, kind, times in command[PLACES]:
+    for name, kind, times in node.place_parts:
         lines.append(name + ": " + "; ".join(_bounds(times, kind)))
-    for word, names in command[GROUPS]:
+    for word, names in node.groups:
         lines.append(word + " " + ", ".join(list(names)))
-    beneath = [below[NAME] for below in command[COMMANDS]]
-    return lines + ["command " + name for name in beneath if goes_on(grammar, path + (name,), False)]
+    return lines + ["command " + name for name, below in node.beneath.items() if below.goes]
 
 
 def _option_facts(option, stands):
     """What help tells of an option; stands tells whether some set has it."""
     name, _, form, kind, _, need, source = option
-    facts = ["off by --no-" + name] if form == "flag" else []
-    facts += _bounds(form, kind) + _default_facts(option)
-    facts += ["needed"] if need else []
-    facts += [] if source is None else ["room " + source]
-    return facts if stands else facts + ["not in a line"]
+    found = ["off by --no-" + name] if form == "flag" else []
+    found += _bounds(form, kind) + _default_facts(option)
+    found += ["needed"] if need else []
+    found += [] if source is None else ["room " + source]
+    return found if stands else found + ["not in a line"]
 
 
 def _bounds(form, kind):
     """How often at most, and of which worths, by an option's form or a place's times."""
-    facts = ["at most " + number_word(MOST_WORTHS[form])] if form in MOST_WORTHS else []
-    return facts if kind is None else facts + ["of " + _kind_text(kind)]
+    found = ["at most " + number_word(MOST_WORTHS[form])] if form in MOST_WORTHS else []
+    return found if kind is None else found + ["of " + _kind_text(kind)]
 
 
 def _default_facts(option):
@@ -171,9 +156,10 @@ def rows_of(grammar, words):
     path, rows, _ = read(grammar, words)
     found = []
     for at, row in enumerate(rows):
-        standing = [grammar.option(path[:at], name) for name, _ in row]
-        on = names_on(standing, [worth for _, worth in row])
-        found.append((path[:at], _first_row(grammar, path[:at], on)))
+        node = grammar.node_of(path[:at])
+        # A worth of 0 is a number's, too.
+        on = [name for name, worth in row if node.options[node.numbers[name]][FORM] != "flag" or worth == 1]
+        found.append((node.way, first_row(node, on)))
     return found
 
 
@@ -181,52 +167,45 @@ def words_for(grammar, path, row):
     """The plain list that goes by a usage row, or None; refused with NoGrammar, NotThere of the path, of the row."""
     if row not in usage(grammar, path):
         raise NotThere(row)
-    above = [path[:at] for at in range(len(path))]
-    if not all([grammar.sets_at(where) for where in above]) or not goes_on(grammar, path, False):
+    nodes = [grammar.node_of(path[:at]) for at in range(len(path) + 1)]
+    if not all([node.fitting for node in nodes]) or not nodes[-1].goes:
         return None
-    way = _way_on(grammar, path)
-    rows = [grammar.sets_at(way[:at])[0] if at != len(path) else row[0] for at in range(len(way) + 1)]
-    given = tuple([_row_given(grammar, way[:at], names) for at, names in enumerate(rows)])
-    return plain(grammar, (way, given, _places_given(grammar, way)))
+    rows = [node.sets()[0] for node in nodes[:-1]] + [row[0]]
+    while nodes[-1].beneath:
+        nodes.append([below for below in nodes[-1].beneath.values() if below.goes][0])
+        rows.append(nodes[-1].sets()[0])
+    given = tuple([_row_given(node, names) for node, names in zip(nodes, rows)])
+    return plain(grammar, (nodes[-1].way, given, _places_given(nodes[-1])))
 
 
-def _way_on(grammar, path):
-    """The path of the command to which a path leads by those that come first and can be gone to the end."""
-    for below in grammar.command(path)[COMMANDS]:
-        further = path + (below[NAME],)
-        if goes_on(grammar, further, False):
-            return _way_on(grammar, further)
-    return path
-
-
-def _row_given(grammar, path, names):
+def _row_given(node, names):
     """Options of these names, each with one worth, as in a reading."""
-    options = [option for option in grammar.command(path)[OPTIONS] if option[NAME] in names]
-    return tuple([(option[NAME], _given(grammar, option)) for option in options])
+    given = [(option[NAME], _given(option, own)) for option, own in zip(node.options, node.owns)]
+    return tuple([(name, worth) for name, worth in given if name in names])
 
 
-def _given(grammar, option):
-    """One worth of an option that stands."""
+def _given(option, own):
+    """One worth of an option that stands, None where its kind has none."""
     if option[FORM] not in WITH_KIND:
         return 1
-    worth = _some_worth(grammar, option[KIND])
+    worth = _some_worth(option[KIND], own)
     return (worth,) if option[FORM] == "many" else worth
 
 
-def _some_worth(grammar, kind):
-    """One worth of a kind that has any."""
+def _some_worth(kind, own):
+    """One worth of a kind, None where it has none."""
     if kind[0] == "number":
         return kind[1]
     if kind[0] == "text":
         return ""
-    return "a" if kind[0] == "name" else (kind[1] if kind[0] == "one" else grammar.own_words(kind))[0]
+    words = ["a"] if kind[0] == "name" else words_of(kind, own)
+    return words[0] if words else None
 
 
-def _places_given(grammar, path):
+def _places_given(node):
     """The places that may not lack, each with one worth, as in a reading."""
     found = []
-    for name, kind, times in grammar.command(path)[PLACES]:
-        if times in NEEDED:
-            worth = _some_worth(grammar, kind)
-            found.append((name, (worth,) if times in REPEATED else worth))
+    for (name, kind, times), own in zip(node.place_parts[:node.needed], node.place_owns):
+        worth = _some_worth(kind, own)
+        found.append((name, (worth,) if times in REPEATED else worth))
     return tuple(found)

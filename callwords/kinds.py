@@ -2,8 +2,6 @@
 
 from callwords.errors import NoKind, NoList, NoNumber, NoWorth
 
-LETTERS = "abcdefghijklmnopqrstuvwxyz"
-FIGURES = "0123456789"
 MOST_LETTERS = 8
 MOST_SIGNS = 40
 MOST_NUMBER = 999999
@@ -19,7 +17,7 @@ LOT_FIGURES = 18
 
 def is_whole(thing, low, high):
     """Whether the thing is a whole number from low to high."""
-    return is_number(thing) and low <= thing <= high
+    return isinstance(thing, int) and not isinstance(thing, bool) and low <= thing <= high
 
 
 def is_number(thing):
@@ -29,12 +27,15 @@ def is_number(thing):
 
 def is_name(thing):
     """Whether the thing is a text of one to eight small letters."""
-    return isinstance(thing, str) and 1 <= len(thing) <= MOST_LETTERS and all([sign in LETTERS for sign in thing])
+    if not isinstance(thing, str) or not 1 <= len(thing) <= MOST_LETTERS:
+        return False
+    # Of plain signs just the small letters are both letters and small.
+    return thing.isascii() and thing.isalpha() and thing.islower()
 
 
 def is_letter(thing):
     """Whether the thing is a text of one small letter."""
-    return is_name(thing) and len(thing) == 1
+    return isinstance(thing, str) and len(thing) == 1 and "a" <= thing <= "z"
 
 
 def is_word(thing):
@@ -44,23 +45,23 @@ def is_word(thing):
 
 def are_signs(text):
     """Whether each of a text is a sign."""
-    return all([" " <= sign <= "~" for sign in text])
+    return text.isascii() and text.isprintable()
 
 
 def is_kind(thing):
     """Whether the thing is a worth's kind."""
     if not isinstance(thing, tuple) or len(thing) == 0:
         return False
-    head, rest = thing[0], thing[1:]
+    head, many = thing[0], len(thing)
+    if many == 2:
+        if head == "own":
+            return is_name(thing[1])
+        if head == "text":
+            return is_whole(thing[1], 1, MOST_TEXT)
+        return head == "one" and _are_choices(thing[1])
     if head == "number":
-        return _are_bounds(rest)
-    if head == "one":
-        return len(rest) == 1 and _are_choices(rest[0])
-    if head == "name":
-        return len(rest) == 0
-    if head == "text":
-        return len(rest) == 1 and is_whole(rest[0], 1, MOST_TEXT)
-    return head == "own" and len(rest) == 1 and is_name(rest[0])
+        return _are_bounds(thing[1:])
+    return head == "name" and many == 1
 
 
 def _are_bounds(things):
@@ -93,6 +94,8 @@ def number_word(number):
     """The plain word of a whole number; refused with NoNumber."""
     if not is_number(number):
         raise NoNumber(number)
+    if -LOT < number < LOT:
+        return str(number)
     # Python's str breaks off at some thousand figures, so the figures are written in lots.
     rest, lots = abs(number), []
     while rest >= LOT:
@@ -111,6 +114,8 @@ def number_in(thing):
     figures = thing[1:] if below else thing
     if not _are_figures(figures) or (below and figures == "0"):
         return None
+    if len(figures) <= LOT_FIGURES:
+        return int(thing)
     # Python's int breaks off at some thousand figures, so they are taken one by one.
     number = 0
     for figure in figures:
@@ -120,7 +125,7 @@ def number_in(thing):
 
 def _are_figures(text):
     """Whether a text is figures with no 0 ahead of others."""
-    if text == "" or not all([sign in FIGURES for sign in text]):
+    if not text.isascii() or not text.isdigit():
         return False
     return text == "0" or text[0] != "0"
 
@@ -128,7 +133,7 @@ def _are_figures(text):
 def is_worth(kind, thing, *, own=()):
     """Whether the thing is a worth of the kind; refused with NoKind, NoList."""
     _look_at(kind, own)
-    return _fits(kind, thing, own)
+    return fits(kind, thing, own)
 
 
 def _look_at(kind, own):
@@ -139,7 +144,7 @@ def _look_at(kind, own):
         raise NoList(own)
 
 
-def _fits(kind, thing, own):
+def fits(kind, thing, own):
     """Whether the thing is a worth of a kind, where kind and own words are known to be such."""
     if kind[0] == "number":
         return is_whole(thing, kind[1], kind[2])
@@ -147,13 +152,13 @@ def _fits(kind, thing, own):
         return is_name(thing)
     if kind[0] == "text":
         return is_word(thing) and len(thing) <= kind[1]
-    return thing in _known(kind, own)
+    return thing in (kind[1] if kind[0] == "one" else own)
 
 
 def word_of(kind, worth, *, own=()):
     """The word of a worth; refused with NoKind, NoList, NoWorth."""
     _look_at(kind, own)
-    if not _fits(kind, worth, own):
+    if not fits(kind, worth, own):
         raise NoWorth(worth)
     return number_word(worth) if kind[0] == "number" else worth
 
@@ -162,24 +167,37 @@ def worth_of(kind, word, *, own=()):
     """The worth that a word writes, or None; refused with NoKind, NoList."""
     _look_at(kind, own)
     worth = number_in(word) if kind[0] == "number" else word
-    return worth if _fits(kind, worth, own) else None
+    return worth if fits(kind, worth, own) else None
+
+
+def worth_in(kind, word, own):
+    """The worth that a word writes, or None, where kind, word and own words are known to be such."""
+    head = kind[0]
+    if head == "text":
+        return word if len(word) <= kind[1] else None
+    if head == "number":
+        number = number_in(word)
+        return number if number is not None and kind[1] <= number <= kind[2] else None
+    if head == "name":
+        return word if is_name(word) else None
+    return word if word in (kind[1] if head == "one" else own) else None
 
 
 def begins_worth(kind, thing, *, own=()):
     """Whether the thing is a text with which some worth's word begins; refused with NoKind, NoList."""
     _look_at(kind, own)
-    return isinstance(thing, str) and _begins(kind, thing, own)
+    return isinstance(thing, str) and begins(kind, thing, own)
 
 
-def _begins(kind, text, own):
+def begins(kind, text, own):
     """Whether the word of some worth of a kind begins with a text."""
     if kind[0] == "number":
         return _begins_number(kind[1], kind[2], text)
     if kind[0] == "name":
         return text == "" or is_name(text)
     if kind[0] == "text":
-        return _fits(kind, text, own)
-    return any([word.startswith(text) for word in _known(kind, own)])
+        return fits(kind, text, own)
+    return any([word.startswith(text) for word in (kind[1] if kind[0] == "one" else own)])
 
 
 def _begins_number(low, high, text):
@@ -211,10 +229,10 @@ def _has_begun(low, high, number):
 def known_words(kind, *, own=()):
     """The known words of a kind, a new list; refused with NoKind, NoList."""
     _look_at(kind, own)
-    return _known(kind, own)
+    return words_of(kind, own)
 
 
-def _known(kind, own):
+def words_of(kind, own):
     """The known words of a kind, where kind and own words are known to be such."""
     if kind[0] == "one":
         return list(kind[1])
@@ -224,25 +242,35 @@ def _known(kind, own):
 def has_worth(kind, *, own=()):
     """Whether a kind has any worth; refused with NoKind, NoList."""
     _look_at(kind, own)
+    return has_any(kind, own)
+
+
+def has_any(kind, own):
+    """Whether a kind has any worth, where kind and own words are known to be such."""
     return kind[0] != "own" or len(own) > 0
 
 
 def default_fits(form, kind, default):
     """Whether a default is one of an option of this form and kind."""
+    if form in ("flag", "count"):
+        return kind is None and fits_form(form, kind, default)
+    return form in ("one", "many") and is_kind(kind) and fits_form(form, kind, default)
+
+
+def fits_form(form, kind, default):
+    """Whether a default is one of an option of this form and kind, where both are known to be such."""
     if form == "flag":
-        return kind is None and is_whole(default, 0, 1)
+        return is_whole(default, 0, 1)
     if form == "count":
-        return kind is None and is_whole(default, 0, MOST_COUNT)
+        return is_whole(default, 0, MOST_COUNT)
     if form == "one":
-        return is_kind(kind) and (default is None or _fits_as_default(kind, default))
-    if form == "many":
-        return is_kind(kind) and _are_defaults(kind, default)
-    return False
+        return default is None or _fits_as_default(kind, default)
+    return _are_defaults(kind, default)
 
 
 def _fits_as_default(kind, thing):
     """Whether the thing is a worth of a kind, any word being one of an own kind."""
-    return is_word(thing) if kind[0] == "own" else _fits(kind, thing, ())
+    return is_word(thing) if kind[0] == "own" else fits(kind, thing, ())
 
 
 def _are_defaults(kind, thing):

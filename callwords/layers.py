@@ -1,7 +1,7 @@
 """Calls: what a reading calls for, each worth by the first layer that gives one, a line, a room, a book, defaults."""
 
 from callwords.books import is_text, row_counts, row_read, row_written
-from callwords.commands import DEFAULT, NAME, NEED, OPTIONS, PLACES, REPEATED, SOURCE
+from callwords.commands import DEFAULT, NAME, NEED, REPEATED, SOURCE
 from callwords.errors import Lacks, NoBook, NoCall, NoGrammar, NoReading, NoRoom, NoRow, NoText, NotThere, Unread
 from callwords.grammars import Grammar
 from callwords.lines import cut
@@ -79,11 +79,12 @@ def called(grammar, reading, *, room=None, book=None):
     path, rows, filled = reading
     worths, whence = [], {}
     for at, row in enumerate(rows):
-        for option in grammar.command(path[:at])[OPTIONS]:
-            layer, worth = _first_layer(grammar, option, _all_layers(path[:at], option, row, room, book))
-            worths.append((path[:at], option[NAME], worth))
-            whence[path[:at], option[NAME]] = layer
-    return Call(path, worths, all_places(grammar, path, filled), whence)
+        node, standing = grammar.node_of(path[:at]), {name: worth for name, worth in row}
+        for option in node.options:
+            layer, worth = _first_layer(grammar, option, _all_layers(node.way, option, standing, room, book))
+            worths.append((node.way, option[NAME], worth))
+            whence[node.way, option[NAME]] = layer
+    return Call(path, worths, all_places(grammar.node_of(path), filled), whence)
 
 
 def _look_at(grammar, reading, room, book):
@@ -109,15 +110,14 @@ def look_at_layers(room, book):
 def _is_option(grammar, key):
     """Whether a key (path, name) is that of an option of a Grammar."""
     path, name = key
-    return grammar.is_there(path) and name in [option[NAME] for option in grammar.command(path)[OPTIONS]]
+    return grammar.is_there(path) and name in grammar.node_of(path).numbers
 
 
-def _all_layers(path, option, row, room, book):
+def _all_layers(path, option, standing, room, book):
     """What each layer gives an option, in their order, as it stands there: tuples (layer, found)."""
     name, source, found = option[NAME], option[SOURCE], []
-    for standing, worth in row:
-        if standing == name:
-            found.append(("line", worth))
+    if name in standing:
+        found.append(("line", standing[name]))
     if room is not None and source in room:
         found.append(("room", room[source]))
     if book is not None and (path, name) in book:
@@ -150,11 +150,10 @@ def _worth_in(grammar, option, given):
     return worth
 
 
-def all_places(grammar, path, filled):
+def all_places(node, filled):
     """All places of a command, with the worths of those that are filled."""
     worths = {name: worth for name, worth in filled}
-    places = grammar.command(path)[PLACES]
-    return [(name, worths.get(name, () if times in REPEATED else None)) for name, _, times in places]
+    return [(name, worths.get(name, () if times in REPEATED else None)) for name, _, times in node.place_parts]
 
 
 def layers_of(grammar, reading, path, name, *, room=None, book=None):
@@ -165,9 +164,10 @@ def layers_of(grammar, reading, path, name, *, room=None, book=None):
     _look_at(grammar, reading, room, book)
     way, rows, _ = reading
     for at, row in enumerate(rows):
-        for option in grammar.command(way[:at])[OPTIONS]:
-            if path == way[:at] and name == option[NAME]:
-                layers = _all_layers(path, option, row, room, book)
+        node, standing = grammar.node_of(way[:at]), {one: worth for one, worth in row}
+        for option in node.options:
+            if path == node.way and name == option[NAME]:
+                layers = _all_layers(path, option, standing, room, book)
                 return [(given[0], _worth_in(grammar, option, given)) for given in layers]
     raise NotThere((path, name))
 

@@ -4,8 +4,8 @@ from callwords.changes import BECOMES, NAMED, WHERE, WORD, name_behind, path_beh
 from callwords.commands import COMMANDS, DEFAULT, FORM, KIND, MOST_REST, NAME, NEED, OPTIONS, PLACES, REPEATED
 from callwords.commands import WITH_KIND
 from callwords.errors import Gone
-from callwords.kinds import MOST_COUNT, MOST_MANY, is_whole
-from callwords.readings import is_worth_in
+from callwords.kinds import MOST_COUNT, MOST_MANY, fits, is_whole
+from callwords.readings import are_worths
 
 
 def led_over(steps, reading):
@@ -43,7 +43,8 @@ def _row_led(ahead, change, behind, row):
 
 def _refuse_unlike(change, grammar, worths):
     """Refuses worths of which one isn't of the kind that a change tells."""
-    if not all([is_worth_in(grammar, change[BECOMES], worth) for worth in worths]):
+    kind = change[BECOMES]
+    if not all([fits(kind, worth, grammar.own_of(kind)) for worth in worths]):
         raise Gone(change[WHERE], change[NAMED])
 
 
@@ -139,22 +140,16 @@ def _can_be(grammar, option, worth):
     if form not in WITH_KIND:
         return is_whole(worth, 0, 1 if form == "flag" else MOST_COUNT)
     if form == "many":
-        return _are_worths(grammar, kind, worth, 0, MOST_MANY)
+        return are_worths(kind, grammar.own_of(kind), worth, 0, MOST_MANY)
     if worth is None:
         return option[DEFAULT] is None and not option[NEED]
-    return is_worth_in(grammar, kind, worth)
+    return fits(kind, worth, grammar.own_of(kind))
 
 
 def _can_fill(grammar, place, worth):
     """Whether a place may be called with a worth, or worths."""
     _, kind, times = place
+    own = grammar.own_of(kind)
     if times in REPEATED:
-        return _are_worths(grammar, kind, worth, 1 if times == "some" else 0, MOST_REST)
-    return times == "maybe" if worth is None else is_worth_in(grammar, kind, worth)
-
-
-def _are_worths(grammar, kind, thing, least, most):
-    """Whether the thing is a tuple of so many worths of a kind."""
-    if not isinstance(thing, tuple) or not least <= len(thing) <= most:
-        return False
-    return all([is_worth_in(grammar, kind, worth) for worth in thing])
+        return are_worths(kind, own, worth, 1 if times == "some" else 0, MOST_REST)
+    return times == "maybe" if worth is None else fits(kind, worth, own)

@@ -25,6 +25,10 @@ def are_words(thing):
 
 def cut(line):
     """The words to which a line is cut; refused with NoLine, BadSign, TooMany."""
+    words = _cut_plainly(line)
+    if words is not None:
+        _refuse_too_many(len(words))
+        return words
     words, begun, quote, opened = _scanned(line)
     if quote != "":
         raise BadSign(opened)
@@ -32,6 +36,14 @@ def cut(line):
         words.append(begun)
     _refuse_too_many(len(words))
     return words
+
+
+def _cut_plainly(line):
+    """The words of a line without quotes and escapes, in which no word is too long; None of any other thing."""
+    if not is_line(line) or "'" in line or '"' in line or "\\" in line:
+        return None
+    words = line.split()
+    return words if max([len(word) for word in words], default=0) <= MOST_SIGNS else None
 
 
 def state_of(line):
@@ -86,6 +98,9 @@ def quoted(word):
     """A word quoted in the fewest signs; refused with NoWord."""
     if not is_word(word):
         raise NoWord(word)
+    if word.isalnum():
+        # Letters and figures need nothing; this is what most words are made of.
+        return word
     return min(_ways(word), key=len)
 
 
@@ -116,9 +131,14 @@ def quoted_behind(state, word):
     """What makes the word begun of a state this word, and a blank; refused with NoState, NoWord."""
     if not is_state(state):
         raise NoState(state)
-    begun, quote = state[1], state[2]
-    if not is_word(word) or not word.startswith(begun or ""):
+    if not is_word(word) or not word.startswith(state[1] or ""):
         raise NoWord(word)
+    return written_behind(state, word)
+
+
+def written_behind(state, word):
+    """What makes the word begun of what is known to be a state a word that begins so, and a blank."""
+    _, begun, quote = state
     if begun is None:
         return quoted(word) + " "
     return _rest_quoted(word[len(begun):], quote) + " "

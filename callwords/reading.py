@@ -11,10 +11,11 @@ def read(grammar, words):
     """The reading (path, options, places) of words; refused with NoGrammar, NoList, Wrong."""
     look_at(grammar, words)
     spot, at = walked(grammar, words)
-    if at == len(words) and is_end(grammar, spot):
-        return reading_at(grammar, spot)
-    sign = 0 if at == len(words) else _wrong_sign(grammar, spot, words[at])
-    raise Wrong(at, sign, tuple(wants(grammar, spot)))
+    if at == len(words) and is_end(spot):
+        return reading_at(spot)
+    wanted_there = wants(spot)
+    sign = 0 if at == len(words) else _wrong_sign(spot, words[at], wanted_there)
+    raise Wrong(at, sign, tuple(wanted_there))
 
 
 def look_at(grammar, words):
@@ -25,12 +26,24 @@ def look_at(grammar, words):
         raise NoList(words)
 
 
-def _wrong_sign(grammar, spot, word):
+def _wrong_sign(spot, word, wanted_there):
     """The number of the first wrong sign of the wrong word, its length where all of it may begin one."""
-    for sign in range(len(word)):
-        if not leads_on(grammar, spot, word[:sign + 1]):
-            return sign
-    return len(word)
+    low, high = 0, len(word)
+    # What begins an open text is open, so halves suffice: all ahead of low is open, what ends behind high isn't.
+    while low < high:
+        half = (low + high) // 2
+        if leads_on(spot, word[:half + 1], wanted_there):
+            low = half + 1
+        else:
+            high = half
+    return low
+
+
+def reading_of(grammar, words):
+    """The reading of words, or None where they don't read; refused with NoGrammar, NoList."""
+    look_at(grammar, words)
+    spot, at = walked(grammar, words)
+    return reading_at(spot) if at == len(words) and is_end(spot) else None
 
 
 def is_open(grammar, words, begun):
@@ -39,26 +52,27 @@ def is_open(grammar, words, begun):
     if not is_word(begun):
         raise NoWord(begun)
     spot, at = walked(grammar, words)
-    return at == len(words) and leads_on(grammar, spot, begun)
+    return at == len(words) and leads_on(spot, begun, wants(spot))
 
 
 def wanted(grammar, words):
     """What may be the next word of some list that reads, a new list; refused with NoGrammar, NoList."""
     look_at(grammar, words)
     spot, at = walked(grammar, words)
-    return wants(grammar, spot) if at == len(words) else []
+    return wants(spot) if at == len(words) else []
 
 
 def reads(grammar, words):
     """Whether the words are a list that reads; refused with NoGrammar, NoList."""
     look_at(grammar, words)
     spot, at = walked(grammar, words)
-    return at == len(words) and is_end(grammar, spot)
+    return at == len(words) and is_end(spot)
 
 
 def shows_reading(grammar, words, thing):
     """Whether the thing is the reading of the words; refused with NoGrammar, NoList."""
-    return reads(grammar, words) and is_same(thing, read(grammar, words))
+    reading = reading_of(grammar, words)
+    return reading is not None and is_same(thing, reading)
 
 
 def is_same(thing, told):

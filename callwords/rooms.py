@@ -2,7 +2,7 @@
 
 from callwords.commands import FORM, KIND, is_path
 from callwords.errors import BadSign, TooMany
-from callwords.kinds import MOST_COUNT, MOST_MANY, is_name, is_whole, is_word, number_in, worth_of
+from callwords.kinds import MOST_COUNT, MOST_MANY, is_name, is_whole, is_word, number_in, worth_in
 from callwords.lines import cut, is_line
 
 FLAG_WORTHS = {"no": 0, "yes": 1}
@@ -54,13 +54,13 @@ def _worth_of_text(grammar, option, text):
     if option[FORM] == "count":
         number = number_in(text)
         return number if is_whole(number, 0, MOST_COUNT) else None
-    return worth_of(option[KIND], text, own=grammar.own_words(option[KIND]))
+    return worth_in(option[KIND], text, grammar.own_of(option[KIND])) if is_word(text) else None
 
 
 def _worths_of(grammar, option, words):
     """The worths that words write, none to six, or None."""
     if len(words) > MOST_MANY:
         return None
-    own = grammar.own_words(option[KIND])
-    worths = tuple([worth_of(option[KIND], word, own=own) for word in words])
+    own = grammar.own_of(option[KIND])
+    worths = tuple([worth_in(option[KIND], word, own) for word in words])
     return None if None in worths else worths

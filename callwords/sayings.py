@@ -1,6 +1,6 @@
 """What a desk is told and answers: paths, changes and calls as texts."""
 
-from callwords.commands import FORM, KIND, NAME, OPTIONS
+from callwords.commands import FORM, KIND, NAME, OPTIONS, is_path
 from callwords.errors import NoLine, NotThere
 from callwords.kinds import is_letter, is_name
 from callwords.lines import cut, joined
@@ -23,8 +23,9 @@ def path_of(text):
     """The path that a text writes, or None."""
     if text == ROOT:
         return ()
-    ahead, *names = text.split(ROOT)
-    return tuple(names) if ahead == "" and names and all([is_name(name) for name in names]) else None
+    parts = text.split(ROOT)
+    path = tuple(parts[1:])
+    return path if parts[0] == "" and len(path) > 0 and is_path(path) else None
 
 
 def change_of(grammar, text):

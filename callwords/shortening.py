@@ -2,8 +2,7 @@
 
 from itertools import combinations
 
-from callwords.commands import FORM, NAME, OPTIONS, SHORT, WITH_KIND
-from callwords.grammars import command_words, flag_words, option_words
+from callwords.commands import FORM, SHORT, WITH_KIND
 from callwords.kinds import MOST_SIGNS, number_word
 from callwords.lines import quoted
 
@@ -29,45 +28,33 @@ def worth_word(worth):
     return worth if isinstance(worth, str) else number_word(worth)
 
 
-def shortest_names(found):
-    """A dict from names to the shortest beginnings that read to them, of a dict from beginnings to names."""
-    shortest = {}
-    for text in sorted(list(found), key=len):
-        if found[text] not in shortest:
-            shortest[found[text]] = text
-    return shortest
-
-
-def shortest_command(grammar, path, name):
-    """The shortest word that names a command beneath."""
-    return shortest_names(command_words(grammar, path))[name]
-
-
-def row_words(grammar, path, row):
+def row_words(node, row):
     """The shortest words that give a command's options just their worths, tuples (name, worth) of those that stand."""
-    alone, letters, parts = _taken_apart(grammar, path, row)
+    if not row:
+        return []
+    alone, letters, parts = _taken_apart(node, row)
     return alone + _packed(letters, parts)
 
 
-def _taken_apart(grammar, path, row):
+def _taken_apart(node, row):
     """The words that stand alone, the letters of flags and counts, and the Parts."""
-    names, off_names = shortest_names(option_words(grammar, path)), shortest_names(flag_words(grammar, path))
-    options = {option[NAME]: option for option in grammar.command(path)[OPTIONS]}
+    names, off_names, _ = node.shortest()
     alone, letters, parts = [], "", []
     for name, worth in row:
-        letter, form = options[name][SHORT], options[name][FORM]
+        number = node.numbers[name]
+        letter, form = node.options[number][SHORT], node.options[number][FORM]
         if form in WITH_KIND:
             for one in worth if form == "many" else (worth,):
                 word = worth_word(one)
-                named = "--" + names[name] + "=" + word
+                named = "--" + names[number] + "=" + word
                 if letter is None:
                     alone.append(named)
                 else:
                     parts.append(Part(letter, word, named))
         elif worth == 0:
-            alone.append("--no-" + off_names[name])
+            alone.append("--no-" + off_names[number])
         elif letter is None:
-            alone += ["--" + names[name]] * worth
+            alone += ["--" + names[number]] * worth
         else:
             letters += letter * worth
     return alone, letters, parts
@@ -76,10 +63,12 @@ def _taken_apart(grammar, path, row):
 def _packed(letters, parts):
     """The shortest words of letters and Parts: as few further words as hold all letters, the cheapest such."""
     lacking = len(letters) - sum([_room_ahead(part) for part in parts])
+    if lacking <= 0:
+        return _written(letters, parts, ())
     # None stands for a word of letters alone, a Part's number for its worth in a word behind its letter.
     further = [None, None] + list(range(len(parts)))
     found = []
-    for many in range(MOST_FURTHER + 1):
+    for many in range(1, MOST_FURTHER + 1):
         if not found:
             for chosen in combinations(further, many):
                 if sum([_gained(parts, number) for number in chosen]) >= lacking:

@@ -2,7 +2,7 @@
 
 from callwords.errors import NoGrammar, NoKind
 from callwords.grammars import Grammar
-from callwords.kinds import is_kind
+from callwords.kinds import is_kind, words_of
 
 WITH_WORDS = ("one", "own")
 
@@ -13,7 +13,11 @@ def table_of(grammar, kind):
         raise NoGrammar(grammar)
     if not is_kind(kind):
         raise NoKind(kind)
+    return table_with(kind, grammar.own_words(kind))
+
+
+def table_with(kind, own):
+    """The table of what is known to be a kind, with its own words."""
     if kind[0] not in WITH_WORDS:
         return kind
-    words = kind[1] if kind[0] == "one" else grammar.own_words(kind)
-    return "words", tuple(sorted(list(words)))
+    return "words", tuple(sorted(words_of(kind, own)))

@@ -1,37 +1,37 @@
 """Usage rows: which sets of a command's options they let by, and which of them suffice."""
 
-from callwords.commands import NAME, OPTIONS
+from callwords.commands import NAME
 
 
-def all_rows(grammar, path):
-    """All usage rows of one of the paths, tuples (must, may), in their order.
-
-    Options are numbered, and sets of them are numbers, the bit of an option's number being set.
-    """
-    names = [option[NAME] for option in grammar.command(path)[OPTIONS]]
-    fitting = {_bits(found, names): True for found in grammar.sets_at(path)}
-    lets = _letting(len(names), fitting)
-    found = []
-    for must, may in lets:
-        if not _is_within_another(must, may, len(names), lets):
-            needed, free = _numbers(must, len(names)), _numbers(may, len(names))
-            found.append((len(needed), needed, free))
-    return [(_named(needed, names), _named(free, names)) for _, needed, free in sorted(found)]
+def all_rows(node):
+    """All usage rows of a Node's command, a tuple of tuples (must, may), in their order."""
+    if node.known_rows is None:
+        many, found = len(node.options), []
+        lets = _letting(many, node.fitting)
+        for must, may in lets:
+            if not _is_within_another(must, may, many, lets):
+                needed = _numbers(must, many)
+                found.append((len(needed), needed, _numbers(may, many)))
+        node.known_rows = tuple([(_named(node, needed), _named(node, free)) for _, needed, free in sorted(found)])
+    return node.known_rows
 
 
-def _bits(found, names):
-    """The number of a set of names."""
-    return sum([1 << number for number, name in enumerate(names) if name in found])
+def first_row(node, names):
+    """The first usage row by which a set of names goes, or None."""
+    for must, may in all_rows(node):
+        if all([name in names for name in must]) and all([name in must or name in may for name in names]):
+            return must, may
+    return None
 
 
 def _numbers(bits, many):
-    """The options' numbers in the number of a set, a tuple."""
+    """The options' numbers in a set, a tuple."""
     return tuple([number for number in range(many) if bits >> number & 1])
 
 
-def _named(numbers, names):
+def _named(node, numbers):
     """The names of options of these numbers, a tuple."""
-    return tuple([names[number] for number in numbers])
+    return tuple([node.options[number][NAME] for number in numbers])
 
 
 def _letting(many, fitting):

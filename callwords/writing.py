@@ -1,26 +1,34 @@
 """Lines for calls: the shortest words of a reading, the shortest ones that are safe, and the plain ones."""
 
-from callwords.commands import DEFAULT, FORM, NAME, NEED, OPTIONS, PLACES, REPEATED, SOURCE
+from callwords.commands import DEFAULT, FORM, NAME, NEED, REPEATED, SOURCE
 from callwords.errors import NoCall, NoGrammar, NoList, NoReading, NoTruth, NoWay
 from callwords.grammars import Grammar
 from callwords.kinds import is_name
 from callwords.layers import Call, all_places
 from callwords.lines import MOST_WORDS, are_words
-from callwords.reading import read, reads
+from callwords.reading import read, reading_of
 from callwords.readings import is_reading, stands_with
-from callwords.shortening import length, row_words, shortest_command, worth_word
+from callwords.shortening import length, row_words, worth_word
 from callwords.steps import CLOSING, is_like_option
 
 
 def shortest(grammar, reading):
     """A shortest list of words that reads to just a reading; refused with NoGrammar, NoReading."""
     _look_at_reading(grammar, reading)
+    return shortest_of(grammar, reading)
+
+
+def shortest_of(grammar, reading):
+    """A shortest list of words that reads to what is known to be a reading."""
     path, rows, places = reading
-    words = row_words(grammar, (), rows[0])
-    for at, name in enumerate(path):
-        words.append(shortest_command(grammar, path[:at], name))
-        words += row_words(grammar, path[:at + 1], rows[at + 1])
-    return words + _place_words(grammar, path, places)
+    node = grammar.node_of(())
+    words = row_words(node, rows[0])
+    for name, row in zip(path, rows[1:]):
+        beneath = node.beneath[name]
+        words.append(node.shortest()[2][beneath.way])
+        words += row_words(beneath, row)
+        node = beneath
+    return words + _place_words(node, places)
 
 
 def _look_at_reading(grammar, reading):
@@ -31,10 +39,10 @@ def _look_at_reading(grammar, reading):
         raise NoReading(reading)
 
 
-def _place_words(grammar, path, places):
+def _place_words(node, places):
     """The words of places, behind the one that closes options where one of them would be taken as one of these."""
     words = []
-    for (_, _, times), (_, worth) in zip(grammar.command(path)[PLACES], places):
+    for (_, _, times), (_, worth) in zip(node.place_parts, places):
         words += [worth_word(one) for one in (worth if times in REPEATED else (worth,))]
     return [CLOSING] + words if any([is_like_option(word) for word in words]) else words
 
@@ -42,19 +50,26 @@ def _place_words(grammar, path, places):
 def plain(grammar, reading):
     """The plain list of words of a reading; refused with NoGrammar, NoReading."""
     _look_at_reading(grammar, reading)
+    return _plain_of(grammar, reading)
+
+
+def _plain_of(grammar, reading):
+    """The plain list of words of what is known to be a reading."""
     path, rows, places = reading
-    words = _plain_row(grammar, (), rows[0])
-    for at, name in enumerate(path):
+    node = grammar.node_of(())
+    words = _plain_row(node, rows[0])
+    for name, row in zip(path, rows[1:]):
+        node = node.beneath[name]
         words.append(name)
-        words += _plain_row(grammar, path[:at + 1], rows[at + 1])
-    return words + _place_words(grammar, path, places)
+        words += _plain_row(node, row)
+    return words + _place_words(node, places)
 
 
-def _plain_row(grammar, path, row):
+def _plain_row(node, row):
     """The plain words of a command's options that stand."""
     words = []
     for name, worth in row:
-        form = grammar.option(path, name)[FORM]
+        form = node.options[node.numbers[name]][FORM]
         if form == "flag":
             words.append("--" + name if worth == 1 else "--no-" + name)
         elif form == "count":
@@ -67,7 +82,7 @@ def _plain_row(grammar, path, row):
 
 def plain_words(grammar, words):
     """The plain list that reads to the same as the words; refused as read."""
-    return plain(grammar, read(grammar, words))
+    return _plain_of(grammar, read(grammar, words))
 
 
 def is_safe(grammar, call, thing, *, rooms=(), books=False):
@@ -76,14 +91,15 @@ def is_safe(grammar, call, thing, *, rooms=(), books=False):
     Refused with NoGrammar, NoCall, NoList of the rooms' names, NoTruth.
     """
     _look_at_sort(grammar, call, rooms, books)
-    if not are_words(thing) or not reads(grammar, thing):
+    reading = reading_of(grammar, thing) if are_words(thing) else None
+    if reading is None:
         return False
-    path, rows, places = read(grammar, thing)
-    if path != call.path() or not _is_of(grammar, call):
+    path, rows, places = reading
+    nodes = _nodes_of(grammar, call)
+    if path != call.path() or nodes is None or all_places(nodes[-1], places) != call.places():
         return False
-    if all_places(grammar, path, places) != call.places():
-        return False
-    return all([_is_safe_row(grammar, call, path[:at], row, rooms, books) for at, row in enumerate(rows)])
+    worths = _all_worths(call)
+    return all([_is_safe_row(node, worths, row, rooms, books) for node, row in zip(nodes, rows)])
 
 
 def _look_at_sort(grammar, call, rooms, books):
@@ -98,15 +114,19 @@ def _look_at_sort(grammar, call, rooms, books):
         raise NoTruth(books)
 
 
-def _is_of(grammar, call):
-    """Whether a Call has just the options of its path's commands in a Grammar."""
+def _nodes_of(grammar, call):
+    """The Nodes from the root to a Call's path, or None where it has other options than these have."""
     path = call.path()
     if not grammar.is_there(path):
-        return False
-    keys = []
-    for at in range(len(path) + 1):
-        keys += [(path[:at], option[NAME]) for option in grammar.command(path[:at])[OPTIONS]]
-    return keys == [(where, name) for where, name, _ in call.worths()]
+        return None
+    nodes = [grammar.node_of(path[:at]) for at in range(len(path) + 1)]
+    keys = [(node.way, name) for node in nodes for name in node.numbers]
+    return nodes if keys == [(where, name) for where, name, _ in call.worths()] else None
+
+
+def _all_worths(call):
+    """The worths of a Call's options, a dict from tuples (path, name)."""
+    return {(where, name): worth for where, name, worth in call.worths()}
 
 
 def _filled(call):
@@ -120,12 +140,12 @@ def _may_lack(option, worth, rooms, books):
     return not at_risk and not option[NEED] and option[DEFAULT] == worth
 
 
-def _is_safe_row(grammar, call, path, row, rooms, books):
+def _is_safe_row(node, worths, row, rooms, books):
     """Whether what stands at a command, and what doesn't, comes to the Call's worths."""
-    standing = dict(row)
-    for option in grammar.command(path)[OPTIONS]:
+    standing = {name: worth for name, worth in row}
+    for option in node.options:
         name = option[NAME]
-        worth = call.worth(path, name)
+        worth = worths[node.way, name]
         if name in standing:
             if standing[name] != worth:
                 return False
@@ -137,46 +157,49 @@ def _is_safe_row(grammar, call, path, row, rooms, books):
 def safe_line(grammar, call, *, rooms=(), books=False):
     """A shortest list of words that is safe for a Call; refused as is_safe, and with NoWay where there is none."""
     _look_at_sort(grammar, call, rooms, books)
-    if not _is_of(grammar, call):
+    nodes, worths = _nodes_of(grammar, call), _all_worths(call)
+    if nodes is None:
         raise NoWay(call)
-    path, rows = call.path(), []
-    for at in range(len(path) + 1):
-        found = _safe_rows(grammar, call, path[:at], rooms, books)
-        if not found:
-            raise NoWay(call)
-        rows.append(min(found)[2])
+    rows = [_safe_row(node, worths, rooms, books) for node in nodes]
     # A Call of another Grammar may have other places, or lack a place's worth in another way, None or ().
-    reading = (path, tuple(rows), _filled(call))
-    if not is_reading(grammar, reading) or all_places(grammar, path, reading[2]) != call.places():
+    reading = (call.path(), tuple(rows), _filled(call))
+    if None in rows or not is_reading(grammar, reading) or all_places(nodes[-1], reading[2]) != call.places():
         raise NoWay(call)
-    words = shortest(grammar, reading)
+    words = shortest_of(grammar, reading)
     if len(words) > MOST_WORDS:
         raise NoWay(call)
     return words
 
 
-def _safe_rows(grammar, call, path, rooms, books):
-    """The rows of a command's options that are safe, each behind how long its words are, and its number."""
-    found = []
-    for names in grammar.sets_at(path):
-        row = _row_with(grammar, call, path, names, rooms, books)
-        if row is not None:
-            found.append((length(row_words(grammar, path, row)), len(found), row))
-    return found
+def _safe_row(node, worths, rooms, books):
+    """The safe row of a command's options whose words are the shortest, or None where none is safe."""
+    must, barred, off = 0, 0, {}
+    for number, option in enumerate(node.options):
+        worth = worths[node.way, option[NAME]]
+        lacks = _may_lack(option, worth, rooms, books)
+        if option[FORM] == "flag" and worth == 0:
+            barred = barred | 1 << number
+            off[number] = not lacks
+        elif not stands_with(option, node.owns[number], worth):
+            if not lacks:
+                return None
+            barred = barred | 1 << number
+        elif not lacks:
+            must = must | 1 << number
+    rows = []
+    for bits in _least_sets(node, must, barred):
+        row = tuple([
+            (name, worths[node.way, name]) for name, number in node.numbers.items()
+            if bits >> number & 1 or off.get(number, False)
+        ])
+        rows.append((length(row_words(node, row)), len(rows), row))
+    return min(rows)[2] if rows else None
 
 
-def _row_with(grammar, call, path, names, rooms, books):
-    """The safe row in which just these options stand, and no flag is off that needn't; None where none is safe."""
-    row = []
-    for option in grammar.command(path)[OPTIONS]:
-        worth = call.worth(path, option[NAME])
-        off = option[FORM] == "flag" and worth == 0
-        if option[NAME] in names:
-            if off or not stands_with(grammar, option, worth):
-                return None
-            row.append((option[NAME], worth))
-        elif not _may_lack(option, worth, rooms, books):
-            if not off:
-                return None
-            row.append((option[NAME], worth))
-    return tuple(row)
+def _least_sets(node, must, barred):
+    """The sets with all of must and none of the barred ones that have no such set within them.
+
+    One within another has shorter words: those of what stands besides can be left out.
+    """
+    fitting = [bits for bits in node.fitting if bits & must == must and bits & barred == 0]
+    return [bits for bits in fitting if not any([bits & less == less and bits != less for less in fitting])]
