@@ -201,9 +201,8 @@ def wants(spot):
         return [spot.node.options[spot.waiting][KIND]]
     found = _option_wants(spot) if spot.free and spot.node.leads_free else []
     if spot.on in spot.node.fitting:
-        for name, below in spot.node.beneath.items():
-            if below.goes if spot.free else below.goes_bare:
-                found.append(name)
+        beneath = spot.node.beneath
+        found += [name for name in beneath if (beneath[name].goes if spot.free else beneath[name].goes_bare)]
     if place_leads_on(spot, ""):
         found.append(spot.node.place_parts[next_place(spot)][1])
     return found

@@ -40,9 +40,12 @@ def _letting(many, fitting):
     for may in range(1 << many):
         rest, low = may & (may - 1), may & -may
         for must in range(1 << many):
-            if must & may == 0:
-                if must in fitting if may == 0 else (must, rest) in lets and (must | low, rest) in lets:
-                    lets[must, may] = True
+            if may == 0:
+                fits = must in fitting
+            else:
+                fits = must & may == 0 and (must, rest) in lets and (must | low, rest) in lets
+            if fits:
+                lets[must, may] = True
     return lets
 
 

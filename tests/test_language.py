@@ -105,6 +105,16 @@ class LanguageTests(unittest.TestCase):
                 if isinstance(node, ast.Name) and node.id in names:
                     self.assertIn(node, heads, path.name)
 
+    def test_l2_what_the_library_gives_is_only_called(self):
+        for path in FILES:
+            tree = ast.parse(path.read_text())
+            rows = [row for row in tree.body if isinstance(row, ast.ImportFrom) and row.module in LIBRARY]
+            names = {alias.name for row in rows for alias in row.names}
+            called = [node.func for node in ast.walk(tree) if isinstance(node, ast.Call)]
+            for node in ast.walk(tree):
+                if isinstance(node, ast.Name) and node.id in names:
+                    self.assertIn(node, called, path.name)
+
     def test_l5_double_underscore_methods(self):
         for file, node in nodes():
             if isinstance(node, ast.ClassDef):
@@ -116,6 +126,24 @@ class LanguageTests(unittest.TestCase):
     def test_l7_lists_where_a_class_has_an_eq_of_its_own(self):
         for file, node in nodes():
             self.assertNotIsInstance(node, ast.GeneratorExp, file)
+
+    def test_l7_behind_a_star_of_a_call_stands_a_name(self):
+        for file, node in nodes():
+            if isinstance(node, ast.Call):
+                for part in node.args:
+                    if isinstance(part, ast.Starred):
+                        self.assertIsInstance(part.value, (ast.Name, ast.Attribute), file)
+                self.assertTrue(all(word.arg for word in node.keywords), file)
+
+    def test_l6_what_stands_in_a_finally(self):
+        for file, node in nodes():
+            for row in getattr(node, "finalbody", []):
+                for part in ast.walk(row):
+                    self.assertNotIsInstance(part, (ast.Subscript, ast.Raise, ast.Return, ast.Try, ast.For, ast.While), file)
+                    if isinstance(part, ast.Call):
+                        self.assertIn(part.func.attr, ("append", "clear"), file)
+                    if isinstance(part, ast.If):
+                        self.assertIsInstance(part.test.ops[0], (ast.Is, ast.IsNot), file)
 
     def test_l8_builtins(self):
         for file, node in nodes():
@@ -172,6 +200,11 @@ class LanguageTests(unittest.TestCase):
             elif isinstance(node, ast.Attribute):
                 words = [node.attr]
             self.assertFalse(set(words) & BARRED_WORDS, file)
+
+    def test_l17_words_that_occur_nowhere(self):
+        for path in FILES:
+            code = re.sub(r'"""(.|\n)*?"""|#.*', "", path.read_text())
+            self.assertNotRegex(code, r"\b(type|typing|enum|Enum|Flag|Generic|Protocol|ABC|namedtuple|TypedDict)\b", path.name)
 
     def test_l18_no_name_is_a_method_and_an_attribute(self):
         bodies = [node.body for _, node in nodes() if isinstance(node, ast.ClassDef)]
