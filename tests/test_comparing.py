@@ -6,6 +6,7 @@ import unittest
 from callwords.comparing import compared, idle, normal, parts_them, unlike_paths
 from callwords.errors import NoGrammar, Unfit
 from callwords.grammars import Grammar
+from callwords.kinds import worth_of
 from parting import is_loose, tried_parting
 from samples import COLOR, NAME, NAMES, NONE, NUMBER, ODD, OWN, ROOTS, SIZE, SMALL_KINDS, TEXT
 from samples import command, count, flag, grammar, led, made, many, one
@@ -166,6 +167,35 @@ class ComparedTests(Refusals):
         self.assert_same(parts_them(told[0], told[1], ["-x"]), False)
         self.assert_same(parts_them(told[0], told[1], ["--", "-x"]), True)
 
+    def test_101_each_pair_of_kinds(self):
+        own = {"words": list("abcdefgh"), "more": list("abcdefgi"), "dash": ["-a", "-b", "--"], "one": ["-a", "-b"], "two": ["-a", "x"],
+               "ten": ["0", "1", "2", "3"], "long": ["a" * 20, "A", " "], "none": [],
+               "all": ["-a", "-b", "-c", "-d", "-e", "-f", "-g", "--"]}
+        table = {name: (lambda words=words: words) for name, words in own.items()}
+        kinds = [("own", name) for name in own] + [NAME, ("one", tuple("abcdefgh")), ("one", ("a", "x"))]
+        kinds += [("text", most) for most in (1, 2, 3, 8, 19, 20)]
+        kinds += [("number", *ends) for ends in [(0, 3), (0, 4), (-1, 3), (1, 3), (5, 5), (-9, -5), (10, 12), (-99, 99), (12, 999999)]]
+        pool = [word for words in own.values() for word in words] + ["", "a", "i", "j", "z", "zz", "aaa", "a" * 8, "a" * 9, "a" * 20]
+        pool += ["-" + sign for sign in "abcdefghijk"] + ["-aa", "--a", "A", "AA", " ", "-", "=", "-" + "a" * 7, "B" * 19, "B" * 20]
+        pool += [str(number) for number in list(range(-100, 101)) + [999999, 1000000]]
+        for number, kind in enumerate(kinds):
+            for other in kinds[number:]:
+                made_of = [{word: worth for word in pool if (worth := worth_of(one_kind, word, own=own.get(one_kind[-1], ())
+                                                                               if one_kind[0] == "own" else ())) is not None}
+                           for one_kind in (kind, other)]
+                unlike = [word for word in pool if made_of[0].get(word) != made_of[1].get(word)]
+                plain = [word for word in unlike if not (word[:1] == "-" and word[1:2] in set("-abcdefghijklmnopqrstuvwxyz") - {""})]
+                for options in (True, False):
+                    roots = [command("t", [one("aa", one_kind)]) if options else command("t", [], [("at", one_kind, "maybe")])
+                             for one_kind in (kind, other)]
+                    told = [Grammar(root, own=table) for root in roots]
+                    found = compared(*told)
+                    if not unlike:
+                        self.assertEqual(found, ("alike",))
+                        continue
+                    self.assertEqual((found[0], len(found[1])), ("parted", 1 if options or plain else 2), (kind, other, found))
+                    self.assertIs(parts_them(*told, found[1]), True)
+
     def test_101_against_all_short_lists_tried(self):
         seen = {"alike": 0, "parted": 0}
         for chance, root, other, ours, theirs in pairs(range(10100, 10400), 2):
@@ -265,6 +295,11 @@ class IdleTests(Refusals):
     def test_105_a_whole_name_that_begins_another(self):
         root = command("t", [one("lo", NONE), flag("loud")])
         self.assert_same(idle(Grammar(root, own=OWN)), ([((), "lo")], [((), "option", "l", "loud"), ((), "option", "lo", "loud")]))
+
+    def test_105_a_flag_that_can_only_be_off_stands_in_lists(self):
+        groups = [("just", ("aa", "cc")), ("most", ("aa", "bb")), ("most", ("aa", "dd"))]
+        root = command("t", [flag("aa"), flag("bb"), one("cc", NONE), count("dd")], groups=groups)
+        self.assert_same(idle(Grammar(root, own=OWN)), ([((), "cc"), ((), "dd")], []))
 
     def test_105_nothing(self):
         for name in ("bare", "places", "some", "letters"):

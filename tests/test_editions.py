@@ -447,6 +447,45 @@ class EditionsTests(Refusals):
         self.assertEqual(self.editions.beginnings((), to=0), ([], [], []))
 
 
+class DeepTests(Refusals):
+    """Paths of three levels."""
+
+    def setUp(self):
+        leaves = [command("cut", [flag("on", "o")], [("at", NAME, "one")]), command("cup", [flag("on")])]
+        self.grammar = Grammar(command("t", [flag("on")], commands=[command("ab", [flag("on"), flag("up")], commands=leaves),
+                                                                    command("ac", commands=[command("cut")])]))
+
+    def test_93_led_over_names_of_each_level(self):
+        reading = read(self.grammar, ["--on", "ab", "--on", "cut", "--on", "x"])
+        changes = [("command", (), "ab", "xy"), ("command", ("xy",), "cut", "cot"), ("rename", ("xy", "cot"), "on", "go"),
+                   ("rename", ("xy",), "on", "off"), ("rename", ("xy", "cot"), "at", "to"), ("command", ("ac",), "cut", "cat"),
+                   ("command", (), "ac", "ab"), ("default", ("xy",), "up", 1)]
+        self.assert_same(led_reading(self.grammar, changes, reading), (
+            ("xy", "cot"), ((("on", 1),), (("off", 1), ("up", 0)), (("go", 1),)), (("to", "x"),)))
+        call = call_line(self.grammar, "--on ab --on cut --on x")
+        self.assertIs(same_call(call, call_line(changed(self.grammar, changes), "--on xy --off --no-up cot --go x"), self.grammar,
+                                changes), True)
+        self.assert_refused(Gone, {"where": ("xy", "cut"), "name": "on"}, led_reading, self.grammar,
+                            [("command", (), "ab", "xy"), ("gone", ("xy", "cut"), "on")], reading)
+        self.assert_same(led_reading(self.grammar, [("command", (), "ac", "ad"), ("gone", ("ab", "cup"), "on")], reading), reading)
+
+    def test_96_beginnings_of_each_level(self):
+        editions = Editions(self.grammar)
+        editions.add([("command", (), "ab", "xy"), ("command", ("xy",), "cut", "cot"), ("rename", ("xy", "cot"), "on", "go")])
+        self.assert_same(editions.beginnings((), to=1)[0], [("ab", "xy", None)])
+        self.assert_same(editions.beginnings(("ab",), to=1), ([("cut", "cot", None)], [], []))
+        gone = [("o", "go", None), ("on", "go", None)]
+        self.assert_same(editions.beginnings(("ab", "cut"), to=1), ([], gone, gone))
+        self.assert_same(editions.beginnings(("ac",), to=1), ([], [], []))
+
+    def test_94_forty_words_mended(self):
+        told = Grammar(command("t", [flag("bb", default=1), many("cc", TEXT), count("dd")], [("some", TEXT, "some")]))
+        editions = Editions(told)
+        editions.add([("default", (), "bb", 0)])
+        words = ["--cc=x"] * 6 + ["--dd"] * 3 + ["y"] * 30
+        self.assertEqual((editions.led(words, to=1)[0], len(editions.led(words, to=1)[1])), ("mended", 40))
+
+
 class MeaningTests(Refusals):
     """Points 94 and 95: what words led on mean."""
 
@@ -504,6 +543,36 @@ class MeaningTests(Refusals):
         editions = Editions(GRAMMAR)
         editions.add(changes)
         self.assertEqual(editions.led(["list"], to=1), ("mended", ["-mmm", "l"]))
+
+    def test_95_calls_that_the_grammars_can_not_tell(self):
+        root = command("t", [one("aa", NUMBER), many("bb", NAME), count("cc"), flag("dd")], [("ee", NAME, "maybe"), ("ff", NAME, "rest")])
+        told, call = Grammar(root), call_line(Grammar(root), "--aa=5 --bb=x --cc e f")
+        self.assertIs(same_call(call, call, told, []), True)
+        for options, places in [
+            ([one("aa", ("number", 6, 9)), many("bb", NAME), count("cc"), flag("dd")], root[2]),
+            ([one("aa", NUMBER), many("bb", ("number", 0, 5)), count("cc"), flag("dd")], root[2]),
+            ([one("aa", NUMBER), many("bb", NAME), one("cc", NAME), flag("dd")], root[2]),
+            ([one("aa", NUMBER), many("bb", NAME), count("cc"), one("dd", NAME)], root[2]),
+            ([one("aa", NUMBER), many("bb", NAME), count("cc")], root[2]),
+            ([many("bb", NAME), one("aa", NUMBER), count("cc"), flag("dd")], root[2]),
+            (root[1], [("ee", NUMBER, "maybe"), ("ff", NAME, "rest")]), (root[1], [("ee", NAME, "maybe"), ("ff", NUMBER, "rest")]),
+            (root[1], [("ee", NAME, "maybe")]), (root[1], [("ee", NAME, "maybe"), ("gg", NAME, "rest")]),
+            (root[1], [("ee", NAME, "rest")]),
+        ]:
+            self.assertIs(same_call(call, call, Grammar(command("t", options, places)), []), False)
+        nothing = call_line(told, "")
+        self.assertIs(same_call(nothing, nothing, told, []), True)
+        for options, places in [
+            ([one("aa", NUMBER, default=5)] + list(root[1][1:]), root[2]), ([one("aa", NUMBER, need=True)] + list(root[1][1:]), root[2]),
+            (root[1], [("ee", NAME, "one"), ("ff", NAME, "rest")]), (root[1], [("ee", NAME, "one"), ("ff", NAME, "some")]),
+        ]:
+            self.assertIs(same_call(nothing, nothing, Grammar(command("t", options, places)), []), False)
+        self.assertIs(same_call(nothing, nothing, Grammar(command("u", root[1], root[2])), []), True)
+        self.assertIs(same_call(nothing, nothing, Grammar(command("t", root[1], commands=[command("b")])), []), False)
+        self.assertIs(same_call(call_line(GRAMMAR, "put a"), call_line(GRAMMAR, "put a"), told, []), False)
+        changes = [("kind", (), "aa", ("number", 6, 9))]
+        self.assertIs(same_call(call, call, told, changes), False)
+        self.assertIs(same_call(nothing, nothing, told, changes), True)
 
     def test_95_refused(self):
         call = call_line(GRAMMAR, "list")

@@ -225,6 +225,18 @@ class PageTests(Refusals):
             self.assertTrue(all(len(one) <= width for one in lines))
         self.assertEqual(page(told, (), width=24)[1:], [line[:24], "    " + " " * 18 + "'"])
 
+    def test_83_blanks_of_quoted_words(self):
+        words = ["x  " + "y" * 17, " " + "z" * 19]
+        told = Grammar(command("t", [many("aa", ("own", "w"), default=tuple(words))]), own={"w": lambda: words})
+        line = "aa: at most 6; of <w>; default x\\ \\ " + "y" * 17 + " \\ " + "z" * 19
+        self.assert_same(page(told, (), width=24)[1:], [
+            "aa: at most 6; of <w>; ", "    default x\\ \\ ", "    " + "y" * 17 + " \\ ", "    " + "z" * 19])
+        self.assertEqual(facts(page(told, (), width=24))[1], line)
+        gap = Grammar(command("t", [one("aa", ("own", "w"), default="x" * 3 + "  " + "y" * 15)]),
+                      own={"w": lambda: ["x" * 3 + "  " + "y" * 15]})
+        self.assert_same(page(gap, (), width=25)[1:], ["aa: of <w>; default xxx\\ ", "    \\ " + "y" * 15])
+        self.assert_same(page(gap, (), width=24)[1:], ["aa: of <w>; default ", "    xxx\\ \\ ", "    " + "y" * 15])
+
     def test_83_widths_of_samples(self):
         for number in range(8300, 8330):
             told = Grammar(made(number), own=OWN)

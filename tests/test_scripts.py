@@ -334,6 +334,19 @@ class BackTests(Refusals):
         self.assertEqual(seen, [2] * 4 + [("done", "passed")] + [1] * 4 + [("back", "passed")])
         self.assertEqual(script.next_row(), 0)
 
+    def test_116_what_a_row_became_while_its_deed_is_asked(self):
+        seen = []
+
+        def look(call, kept):
+            seen.append((script.became(0), script.became(1), script.log()[-1][0], script.kept()))
+            return "x", lambda: seen.append((script.became(0), script.became(1)))
+        script = Script(GRAMMAR, {("say",): look, ("end",): look}, ["a = end", "b = end"])
+        script.run()
+        script.back(1)
+        script.run()
+        self.assertEqual(seen, [(None, None, "begun", {}), ("done", None, "begun", {"a": "x"}), ("done", "done"),
+                                ("done", "back", "begun", {"a": "x"})])
+
     def test_116_open_again_behind_an_error(self):
         deeds = Deeds()
         script = deeds.script("say break", "say stay", "end")
