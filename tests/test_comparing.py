@@ -157,6 +157,23 @@ class ComparedTests(Refusals):
         self.assert_parted(command("t", six[:2], groups=[("just", names[:2])]),
                            command("t", [flag("aa"), count("bb")], groups=[("just", names[:2])]), 2, ())
 
+    def test_101_beneath_commands_whose_options_are_needed(self):
+        own = {"dash": ["-x", "--"], "both": ["-x", "y"]}
+        table = {name: (lambda words=words: words) for name, words in own.items()}
+        for kind, word in [(NAME, "a"), (("number", -9, -5), None), (("own", "dash"), "-x"), (("own", "both"), "y"), (TEXT, None),
+                           (("one", ("x", "yy")), None), (None, None)]:
+            needed = flag("aa", "a") if kind is None else one("aa", kind, "a")
+            roots = [
+                command("t", [needed, one("bb", NONE)], commands=[command("c", [needed, count("dd")], commands=[
+                    command("e", [flag(name)])], groups=[("with", ("aa", "dd"))])],
+                    groups=[("just", ("aa", "bb"))]) for name in ("gg", "hh")]
+            told = [Grammar(root, own={**OWN, **table}) for root in roots]
+            found = compared(*told)
+            self.assertEqual((found[0], len(found[1])), ("parted", 4), found)
+            self.assertIs(parts_them(*told, found[1]), True)
+            if word is not None:
+                self.assertEqual(found[1][0], "--aa=" + word)
+
     def test_101_a_list_behind_what_closes(self):
         own = {"one": ["-x", "a"], "two": ["a"], "dash": ["-x"]}
         table = {name: (lambda words=words: words) for name, words in own.items()}

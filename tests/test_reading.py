@@ -506,6 +506,14 @@ class RefusedTests(Reading):
             self.assert_refuses_found(NoWord, thing, is_open, TOOL, [], thing)
             self.assert_refuses_found(NoWord, thing, is_open, grammar("shut"), ["x"], begun=thing)
 
+    def test_46_the_reading_of_the_words_ahead_is_none_of_all(self):
+        bare, places = grammar("bare"), grammar("places")
+        self.assertIs(shows_reading(bare, ["a"], read(bare, [])), False)
+        self.assertIs(shows_reading(bare, ["--", "-x"], read(bare, ["--"])), False)
+        self.assertIs(shows_reading(places, ["a", "red", "12", "--x"], read(places, ["a", "red", "12"])), False)
+        self.assertIs(shows_reading(places, ["a"], ((), ((),), (("one", "a"),))), False)
+        self.assertIs(shows_reading(places, ["a", "red"], read(places, ["a", "red"])), True)
+
     def test_46_any_thing_is_the_reading_or_not(self):
         words = ["-l", "put", "-ta", "-n", "x", "--", "-x"]
         told = (("put",), ((("loud", 1),), (("tag", ("a",)), ("times", 1))), (("what", "x"), ("where", "-x")))
