@@ -6,7 +6,7 @@ from callwords.errors import NoCall, NoGrammar, NoReading, NotThere, NoWay
 from callwords.grammars import Grammar, command_words, flag_words, option_words
 from callwords.kinds import is_whole
 from callwords.layers import Call
-from callwords.leading import can_be_called, led_over, name_led, path_led, worths_led
+from callwords.leading import call_led, led_over, name_led, path_led
 from callwords.lines import MOST_WORDS
 from callwords.reading import read, reads
 from callwords.readings import is_reading
@@ -36,14 +36,8 @@ def same_call(one, other, grammar, changes):
     for call in (one, other):
         if not isinstance(call, Call):
             raise NoCall(call)
-    steps = change_steps(grammar, changes)
-    newer = _last(grammar, steps)
-    if not can_be_called(grammar, one) or not can_be_called(newer, other):
-        return False
-    path, worths, places = worths_led(steps, one)
-    if path != other.path() or places != other.places():
-        return False
-    return all([worths[where, name] == worth for where, name, worth in other.worths()])
+    path, worths, places = call_led(change_steps(grammar, changes), one)
+    return path == other.path() and worths == other.worths() and places == other.places()
 
 
 def _otherwise(was, now, led):

@@ -1,11 +1,9 @@
 """Readings and calls, led from one edition over changes to a newer one."""
 
 from callwords.changes import BECOMES, NAMED, WHERE, WORD, name_behind, path_behind
-from callwords.commands import COMMANDS, DEFAULT, FORM, KIND, MOST_REST, NAME, NEED, OPTIONS, PLACES, REPEATED
-from callwords.commands import WITH_KIND
+from callwords.commands import DEFAULT, FORM, NAME, OPTIONS, REPEATED
 from callwords.errors import Gone
-from callwords.kinds import MOST_COUNT, MOST_MANY, fits, is_whole
-from callwords.readings import are_worths
+from callwords.kinds import fits
 
 
 def led_over(steps, reading):
@@ -91,65 +89,28 @@ def name_led(steps, path, name):
     return name
 
 
-def worths_led(steps, call):
-    """The path, the worths, a dict from tuples (path, name), and the places of a Call led over changes.
+def call_led(steps, call):
+    """The path, the worths and the places of a Call led over changes, each in the order in which a Call tells it.
 
-    Options that go are left out; those that come have the default with which they came.
+    Whether these are worths of the kinds that come plays no part.
     """
-    path, places = call.path(), call.places()
-    worths = {(where, name): worth for where, name, worth in call.worths()}
+    path, worths, places = call.path(), call.worths(), call.places()
     for _, change, _ in steps:
-        if change[WORD] == "more" and path[:len(change[WHERE])] == change[WHERE]:
-            worths[change[WHERE], change[NAMED][NAME]] = change[NAMED][DEFAULT]
-        further = {}
-        for where, name in worths:
-            new = name_behind(change, where, name)
-            if new is not None:
-                further[path_behind(change, where), new] = worths[where, name]
+        worths = _worths_led(change, path, worths)
         places = [(name_behind(change, path, name), worth) for name, worth in places]
-        worths, path = further, path_behind(change, path)
+        path = path_behind(change, path)
     return path, worths, places
 
 
-def options_on(grammar, path):
-    """All options of the commands from the root to a path's end, tuples (path, option)."""
-    found = []
-    for at in range(len(path) + 1):
-        found += [(path[:at], option) for option in grammar.command(path[:at])[OPTIONS]]
-    return found
+def _worths_led(change, path, worths):
+    """The worths of the options of a Call of a path, led over one change.
 
-
-def can_be_called(grammar, call):
-    """Whether a Call has just the options and places of a command without any beneath, and worths of their kinds."""
-    path = call.path()
-    if not grammar.is_there(path) or grammar.command(path)[COMMANDS]:
-        return False
-    options, worths, places = options_on(grammar, path), call.worths(), grammar.command(path)[PLACES]
-    if [(where, option[NAME]) for where, option in options] != [(where, name) for where, name, _ in worths]:
-        return False
-    if [place[NAME] for place in places] != [name for name, _ in call.places()]:
-        return False
-    if not all([_can_be(grammar, option, worth) for (_, option), (_, _, worth) in zip(options, worths)]):
-        return False
-    return all([_can_fill(grammar, place, worth) for place, (_, worth) in zip(places, call.places())])
-
-
-def _can_be(grammar, option, worth):
-    """Whether an option may be called with a worth."""
-    form, kind = option[FORM], option[KIND]
-    if form not in WITH_KIND:
-        return is_whole(worth, 0, 1 if form == "flag" else MOST_COUNT)
-    if form == "many":
-        return are_worths(kind, grammar.own_of(kind), worth, 0, MOST_MANY)
-    if worth is None:
-        return option[DEFAULT] is None and not option[NEED]
-    return fits(kind, worth, grammar.own_of(kind))
-
-
-def _can_fill(grammar, place, worth):
-    """Whether a place may be called with a worth, or worths."""
-    _, kind, times = place
-    own = grammar.own_of(kind)
-    if times in REPEATED:
-        return are_worths(kind, own, worth, 1 if times == "some" else 0, MOST_REST)
-    return times == "maybe" if worth is None else fits(kind, worth, own)
+    An option that goes is left out; one that comes has the default with which it comes.
+    """
+    where = change[WHERE]
+    if change[WORD] == "more" and path[:len(where)] == where:
+        # It stands behind the others of its command, so ahead of those of the commands beneath.
+        ahead = [row for row in worths if len(row[0]) <= len(where)]
+        worths = ahead + [(where, change[NAMED][NAME], change[NAMED][DEFAULT])] + worths[len(ahead):]
+    led = [(path_behind(change, way), name_behind(change, way, name), worth) for way, name, worth in worths]
+    return [row for row in led if row[1] is not None]

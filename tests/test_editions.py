@@ -544,35 +544,90 @@ class MeaningTests(Refusals):
         editions.add(changes)
         self.assertEqual(editions.led(["list"], to=1), ("mended", ["-mmm", "l"]))
 
-    def test_95_calls_that_the_grammars_can_not_tell(self):
+    def test_95_kinds_that_come_play_no_part(self):
         root = command("t", [one("aa", NUMBER), many("bb", NAME), count("cc"), flag("dd")], [("ee", NAME, "maybe"), ("ff", NAME, "rest")])
-        told, call = Grammar(root), call_line(Grammar(root), "--aa=5 --bb=x --cc e f")
-        self.assertIs(same_call(call, call, told, []), True)
-        for options, places in [
-            ([one("aa", ("number", 6, 9)), many("bb", NAME), count("cc"), flag("dd")], root[2]),
-            ([one("aa", NUMBER), many("bb", ("number", 0, 5)), count("cc"), flag("dd")], root[2]),
-            ([one("aa", NUMBER), many("bb", NAME), one("cc", NAME), flag("dd")], root[2]),
-            ([one("aa", NUMBER), many("bb", NAME), count("cc"), one("dd", NAME)], root[2]),
-            ([one("aa", NUMBER), many("bb", NAME), count("cc")], root[2]),
-            ([many("bb", NAME), one("aa", NUMBER), count("cc"), flag("dd")], root[2]),
-            (root[1], [("ee", NUMBER, "maybe"), ("ff", NAME, "rest")]), (root[1], [("ee", NAME, "maybe"), ("ff", NUMBER, "rest")]),
-            (root[1], [("ee", NAME, "maybe")]), (root[1], [("ee", NAME, "maybe"), ("gg", NAME, "rest")]),
-            (root[1], [("ee", NAME, "rest")]),
-        ]:
-            self.assertIs(same_call(call, call, Grammar(command("t", options, places)), []), False)
+        told = Grammar(root, own=OWN)
+        call, beside, short = [call_line(told, line) for line in ("--aa=5 --bb=x --cc e f", "--aa=4 --bb=x --cc e f", "--aa=5 --bb=x --cc e")]
+        kinds = {"aa": [("number", 6, 9), NAME, SIZE], "bb": [NUMBER, ("one", ("y",)), SIZE], "ee": [NUMBER, SIZE], "ff": [NUMBER, SIZE]}
+        for name, several in kinds.items():
+            for kind in several:
+                changes = [("kind", (), name, kind)]
+                self.assertIs(same_call(call, call, told, changes), True)
+                self.assertIs(same_call(call, beside, told, changes), False)
+                self.assertIs(same_call(call, short, told, changes), False)
+                renamed = call_line(changed(told, [("rename", (), name, "zz")]), "--aa=5 --bb=x --cc e f".replace(name, "zz"))
+                for changes in ([("rename", (), name, "zz"), ("kind", (), "zz", kind)], [("kind", (), name, kind), ("rename", (), name, "zz")]):
+                    self.assertIs(same_call(call, renamed, told, changes), True)
+                    self.assertIs(same_call(call, call, told, changes), False)
         nothing = call_line(told, "")
-        self.assertIs(same_call(nothing, nothing, told, []), True)
-        for options, places in [
-            ([one("aa", NUMBER, default=5)] + list(root[1][1:]), root[2]), ([one("aa", NUMBER, need=True)] + list(root[1][1:]), root[2]),
-            (root[1], [("ee", NAME, "one"), ("ff", NAME, "rest")]), (root[1], [("ee", NAME, "one"), ("ff", NAME, "some")]),
+        self.assertIs(same_call(nothing, nothing, told, [("kind", (), "aa", SIZE), ("default", (), "aa", "big")]), True)
+        self.assertIs(same_call(nothing, call_line(changed(told, [("default", (), "aa", 5)]), ""), told, [("default", (), "aa", 5)]), False)
+        came = [("more", (), one("gg", NUMBER, default=7)), ("default", (), "gg", None), ("kind", (), "gg", NAME)]
+        self.assertIs(same_call(call, call_line(changed(told, came[:1]), "--aa=5 --bb=x --cc e f"), told, came), True)
+        self.assertIs(same_call(call, call_line(changed(told, came[:2]), "--aa=5 --bb=x --cc e f"), told, came), False)
+
+    def test_95_kinds_among_other_changes(self):
+        seen = [0, 0]
+        for number in range(9850, 10150):
+            chance = random.Random(number)
+            told = small_grammar(chance, made, number)
+            changes = fitting_changes(chance, told, 6)
+            kept = [change for change in changes if change[0] != "kind"]
+            words = led(chance, told.root(), 5, vocabulary(told.root()), Walk(told.root()), is_live)
+            if kept == changes or tried_reading(told.root(), words) is None:
+                continue
+            try:
+                newer, editions = changed(told, kept), Editions(told)
+                editions.add(kept)
+                call = called(told, read(told, words))
+                beside = called(newer, read(newer, editions.led(words, to=1)[1]))
+            except (NotThere, Unfit, Gone, NoWay, Lacks):
+                continue
+            self.assertIs(same_call(call, beside, told, changes), True)
+            for other in (call, beside):
+                same = same_call(call, other, told, kept)
+                self.assertIs(same_call(call, other, told, changes), same)
+                seen[same] += 1
+        self.assertTrue(min(seen) > 10, seen)
+
+    def test_95_nothing_else_of_the_grammars_counts(self):
+        root = command("t", [one("aa", NUMBER), many("bb", NAME), count("cc"), flag("dd")], [("ee", NAME, "maybe"), ("ff", NAME, "rest")])
+        told = Grammar(root)
+        call, nothing = call_line(told, "--aa=5 --bb=x --cc e f"), call_line(told, "")
+        for other in [
+            Grammar(command("u", root[1], root[2])), Grammar(command("t", root[1], root[2], [("just", ("cc", "dd"))])),
+            Grammar(command("t", [one("aa", NUMBER, need=True)] + list(root[1][1:]), root[2])), Grammar(command("t")), GRAMMAR,
         ]:
-            self.assertIs(same_call(nothing, nothing, Grammar(command("t", options, places)), []), False)
-        self.assertIs(same_call(nothing, nothing, Grammar(command("u", root[1], root[2])), []), True)
-        self.assertIs(same_call(nothing, nothing, Grammar(command("t", root[1], commands=[command("b")])), []), False)
-        self.assertIs(same_call(call_line(GRAMMAR, "put a"), call_line(GRAMMAR, "put a"), told, []), False)
-        changes = [("kind", (), "aa", ("number", 6, 9))]
-        self.assertIs(same_call(call, call, told, changes), False)
-        self.assertIs(same_call(nothing, nothing, told, changes), True)
+            for same in (call, nothing):
+                self.assertIs(same_call(same, same, other, []), True)
+            self.assertIs(same_call(call, nothing, other, []), False)
+
+    def test_95_paths_alone(self):
+        told = Grammar(command("t", commands=[command("aa"), command("bb")]))
+        one_call, other = call_line(told, "aa"), call_line(told, "bb")
+        self.assertIs(same_call(one_call, one_call, told, []), True)
+        self.assertIs(same_call(one_call, other, told, []), False)
+        changes = [("command", (), "bb", "cc"), ("command", (), "aa", "bb")]
+        self.assertIs(same_call(one_call, other, told, changes), True)
+        self.assertIs(same_call(one_call, one_call, told, changes), False)
+        self.assertIs(same_call(other, other, told, changes), False)
+
+    def test_95_each_option_and_place_in_its_order(self):
+        rows = [flag("aa", default=1), count("bb", default=1)], [("ee", NAME, "maybe"), ("ff", NAME, "maybe")]
+        told = Grammar(command("t", *rows))
+        for options, places, same in [
+            (rows[0], rows[1], True), (rows[0][::-1], rows[1], False), (rows[0], rows[1][::-1], False), (rows[0][:1], rows[1], False),
+            (rows[0], rows[1][:1], False), (rows[0] + [flag("cc")], rows[1], False), (rows[0], rows[1] + [("gg", NAME, "maybe")], False),
+            ([flag("aa", default=1), flag("bb", default=1)], rows[1], True), ([flag("aa"), count("bb", default=1)], rows[1], False),
+        ]:
+            self.assertIs(same_call(call_line(told, ""), call_line(Grammar(command("t", options, places)), ""), told, []), same)
+        deep = Grammar(command("t", [flag("aa")], commands=[command("go", [flag("bb")]), command("to")]))
+        for path, place in [((), 1), (("go",), 3)]:
+            changes = [("more", path, flag("cc", default=1)), ("command", (), "go", "run"), ("more", (), flag("dd"))]
+            other = call_line(changed(deep, changes), "run")
+            self.assertEqual([name for _, name, _ in other.worths()].index("cc"), place)
+            self.assertIs(same_call(call_line(deep, "go"), other, deep, changes), True)
+            self.assertIs(same_call(call_line(deep, "go"), call_line(changed(deep, changes[:2]), "run"), deep, changes), False)
 
     def test_95_refused(self):
         call = call_line(GRAMMAR, "list")
