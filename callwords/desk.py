@@ -34,6 +34,8 @@ class Desk:
         word = told[0]
         if self._editions is None and word not in WITHOUT_GRAMMAR:
             raise NoGrammar(None)
+        if word == "change":
+            return self._change(row, told[1])
         if word in OF_TEXT:
             return self._set_text(word, told[1])
         if word == "room":
@@ -47,23 +49,24 @@ class Desk:
         return self._editions.grammar(len(self._editions) - 1)
 
     def _set_text(self, word, text):
-        """A grammar, changes of it, or a row of the book is told."""
+        """A grammar, or a row of the book is told."""
         if word == "grammar":
             self._editions = Editions(read_grammar(text.replace(ROWS, "\n")))
-        elif word == "change":
-            self._change(text)
         else:
             self._book = _joined_books(self._book, read_book(text))
         return DONE
 
-    def _change(self, text):
-        """Another edition comes, by changes that are read and made one by one."""
+    def _change(self, row, text):
+        """Another edition comes, by changes that a row's text writes; they are read and made one by one."""
         grammar, changes = self._last(), []
         for part in text.split(ROWS):
             change = change_of(grammar, part)
+            if change is None:
+                raise NoLine(row)
             grammar = changed(grammar, [change])
             changes.append(change)
         self._editions.add(changes)
+        return DONE
 
     def _set_room(self, name, line):
         """The room has a line for a name, or none any more."""

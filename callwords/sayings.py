@@ -1,9 +1,9 @@
 """What a desk is told and answers: paths, changes and calls as texts."""
 
 from callwords.commands import FORM, KIND, NAME, OPTIONS, is_path
-from callwords.errors import NoLine, NotThere
+from callwords.errors import NotThere
 from callwords.kinds import is_letter, is_name
-from callwords.lines import cut, joined
+from callwords.lines import cut, is_line, joined
 from callwords.rowforms import default_of, kind_ahead, option_of
 from callwords.shortening import worth_word
 
@@ -29,13 +29,12 @@ def path_of(text):
 
 
 def change_of(grammar, text):
-    """The change that a text writes; refused as cut, with NoLine, and with NotThere where a default is of none."""
+    """The change that a text writes, or None; refused as cut, and with NotThere where a default is of none."""
+    if not is_line(text):
+        return None
     words = cut(text)
     path = path_of(words[1]) if len(words) > 1 else None
-    change = None if path is None else _change_with(grammar, words[0], path, words[2:])
-    if change is None:
-        raise NoLine(text)
-    return change
+    return None if path is None else _change_with(grammar, words[0], path, words[2:])
 
 
 def _change_with(grammar, word, path, rest):

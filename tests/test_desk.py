@@ -201,14 +201,23 @@ class RefusedTests(Refusals):
             "more /", "more / dry", "more / dry flags", "more dry flag", "more / d flag", "more / dry flag default", "kind / size",
             "kind / size names", "kind / size name x", "kind / size number 1", "Rename / loud noisy", "place / loud noisy", "# x",
         ]:
-            for ahead in ("", "letter / loud x;"):
-                with self.assertRaises(NoLine) as caught:
-                    told.say("change " + ahead + text)
-                self.assertEqual(caught.exception.found, text)
+            for ahead in ("", "letter / loud x;", "gone /list by; letter / loud x ;"):
+                for behind in ("", ";", ";gone / nosuch"):
+                    row = "change " + ahead + text + behind
+                    self.assert_refuses_found(NoLine, row, told.say, row)
         self.assertEqual(told.say("text"), TOLD)
-        with self.assertRaises(NoLine) as caught:
-            told.say("change letter / loud x; ;gone / nosuch")
-        self.assertEqual(caught.exception.found, " ")
+        for row in ("change", "change ", "change  ", "change ;", "change ; ;", "change letter / loud x;", "change letter / loud x; ;x",
+                    "change  letter  /loud x"):
+            self.assert_refuses_found(NoLine, row, told.say, row)
+        self.assertEqual(told.say("text"), TOLD)
+
+    def test_124_a_changes_text_longer_than_a_line(self):
+        told, ahead = desk(), "change letter / loud x;"
+        for row in ("change " + "x" * 2001, ahead + "gone / loud" + " " * 2000, ahead + "x" * 2001 + ";'"):
+            self.assert_refuses_found(NoLine, row, told.say, row)
+        self.assertEqual(told.say("text"), TOLD)
+        self.assert_refused(TooMany, {"many": 1000}, told.say, ahead + "x " * 1000)
+        self.assertEqual(told.say("change gone / loud" + " " * 1989), "ok")
 
     def test_124_changes_refused_in_their_order(self):
         told = desk()
