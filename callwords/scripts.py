@@ -1,6 +1,8 @@
 """Scripts: rows of lines run by deeds, cut amid, and taken back."""
 
 from callwords.commands import COMMANDS, is_path
+from callwords.desk import Desk
+from callwords.editions import Editions
 from callwords.errors import Barred, BadSign, Busy, CallError, Lacks, Missing, NoAnswer, NoDeeds, NoGrammar, NoLine
 from callwords.errors import NoList, NoNumber, NotThere, Over, Stuck, TooMany, Unread, Wrong
 from callwords.grammars import Grammar
@@ -22,10 +24,10 @@ def is_log(many, thing):
 
 
 def _can_be_def(thing):
-    """Whether the thing is none of those that are surely no def."""
+    """Whether the thing is none of those that are surely no def, as objects of the package are."""
     if thing is None or isinstance(thing, (int, str, bytes, list, tuple, dict)):
         return False
-    return not isinstance(thing, (Grammar, Call, CallError, Missing, Barred))
+    return not isinstance(thing, (Grammar, Call, Editions, Script, Desk, CallError, Missing, Barred))
 
 
 def _are_deeds(thing):

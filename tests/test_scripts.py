@@ -3,6 +3,8 @@
 import random
 import unittest
 
+from callwords.desk import Desk
+from callwords.editions import Editions
 from callwords.errors import Busy, NoAnswer, NoBook, NoDeeds, NoGrammar, NoLine, NoList, NoNumber, NoRoom, NotThere, Over
 from callwords.errors import Stuck, Wrong
 from callwords.grammars import Grammar
@@ -16,6 +18,12 @@ ROOT = command("t", [flag("loud", "l", source="noise")], commands=[
     command("end"),
 ])
 GRAMMAR = Grammar(ROOT)
+
+
+def objects():
+    """An object of each sort that the package tells or that is made of its classes; none is a def."""
+    script = Script(Grammar(command("t")), {(): lambda call, kept: ("a", None)}, ["", "k ="])
+    return [GRAMMAR, call_line(GRAMMAR, "end"), Editions(GRAMMAR), script, Desk(), NoAnswer(5), NotThere("a"), Busy(1)]
 
 
 class Broken(Exception):
@@ -151,6 +159,21 @@ class StepTests(Refusals):
             self.assertEqual(script.log(), [("begun", 0, ("end",)), ("broke", 0)])
             self.assertEqual((script.next_row(), script.became(0), script.kept()), (1, "broke", {}))
             self.assertIsNone(script.back(0))
+
+    def test_113_an_object_in_the_place_of_the_undo_or_the_answer(self):
+        for thing in objects():
+            for told in [("a", thing), (thing, None), (thing, lambda: None), thing, ("a", (thing,)), ("a", [thing])]:
+                script = Script(GRAMMAR, {("say",): len, ("end",): lambda call, kept: told}, ["k = end", "# next"])
+                self.assert_refuses_found(NoAnswer, told, script.step)
+                self.assertEqual(script.log(), [("begun", 0, ("end",)), ("broke", 0)])
+                self.assertEqual((script.next_row(), script.became(0), script.kept()), (1, "broke", {}))
+                self.assertEqual(script.step(), [("passed", 1)])
+                self.assertIsNone(script.back(0))
+
+    def test_111_an_object_in_the_place_of_a_deed(self):
+        for thing in objects():
+            for deeds in [{("say",): len, ("end",): thing}, {("say",): len, ("end",): len, ("nosuch",): thing}]:
+                self.assert_refuses_found(NoDeeds, deeds, Script, GRAMMAR, deeds, None)
 
     def test_113_with_and_without_an_undo(self):
         answers = iter([("", None), ("a" * 40, lambda: None), ("b", Deeds().say)])
